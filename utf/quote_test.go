@@ -153,6 +153,7 @@ func TestUnquoteFaults(t *testing.T) {
 		{``, api.ErrForm},
 		{`a`, api.ErrForm},
 		{`a"`, api.ErrForm},
+		{"\xff\"", api.ErrForm},
 		{`'a'`, api.ErrForm},
 		{` ""`, api.ErrForm},
 		{`\"a"`, api.ErrForm},
