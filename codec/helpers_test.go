@@ -5,86 +5,29 @@ import (
 	"fmt"
 	"math/rand"
 	"slices"
-	"strings"
 	"testing"
 	"unicode/utf8"
 
 	"tidemark/api"
 	"tidemark/codec"
+	"tidemark/sample"
 )
 
-var null = api.Val{Kind: api.Null}
-
-func boolean(n int64) api.Val { return api.Val{Kind: api.Bool, N: n} }
-
-func number(n int64) api.Val { return api.Val{Kind: api.Int, N: n} }
-
-func text(s string) api.Val { return api.Val{Kind: api.Text, S: s} }
-
-func list(l ...api.Val) api.Val { return api.Val{Kind: api.List, L: l} }
-
-func doc(l ...api.Field) api.Val { return api.Val{Kind: api.Doc, F: l} }
-
-func field(name string, v api.Val) api.Field { return api.Field{Name: name, V: v} }
-
-// nulls is a List of n Nulls.
-func nulls(n int) api.Val { return list(slices.Repeat([]api.Val{null}, n)...) }
-
-// fields is a Doc of n fields with rising names.
-func fields(n int) api.Val {
-	d := doc()
-	for i := range n {
-		d.F = append(d.F, field(fmt.Sprintf("f%02d", i), null))
-	}
-	return d
-}
-
-// deepLists is n Lists within one another.
-func deepLists(n int) api.Val {
-	v := list()
-	for range n - 1 {
-		v = list(v)
-	}
-	return v
-}
-
-// deepDocs is n Docs within one another.
-func deepDocs(n int) api.Val {
-	v := doc()
-	for range n - 1 {
-		v = doc(field("a", v))
-	}
-	return v
-}
-
-// as is a text of n letters.
-func as(n int) string { return strings.Repeat("a", n) }
-
-// show tells all of a value; nil and an empty list alike.
-func show(v api.Val) string {
-	var l, f []string
-	for _, x := range v.L {
-		l = append(l, show(x))
-	}
-	for _, x := range v.F {
-		f = append(f, fmt.Sprintf("%q:%s", x.Name, show(x.V)))
-	}
-	return fmt.Sprintf("<%d %d %q [%s] {%s}>", v.Kind, v.N, v.S, strings.Join(l, " "), strings.Join(f, " "))
-}
+// The values that the tests are made of, by short names.
+var (
+	null, boolean, number, text = sample.Null(), sample.Bool, sample.Int, sample.Text
+	list, doc, field            = sample.List, sample.Doc, sample.Field
+	nulls, fields               = sample.Nulls, sample.Fields
+	deepLists, deepDocs         = sample.DeepLists, sample.DeepDocs
+	as, show, cut               = sample.Letters, sample.Show, sample.Cut
+	withRoom, showRoom          = sample.WithRoom, sample.ShowRoom
+)
 
 // showReply tells all of a reply.
 func showReply(r api.Reply) string {
 	s := fmt.Sprint(int(r.E), " ", r.N)
 	for _, v := range r.Docs {
 		s += " " + show(v)
-	}
-	return s
-}
-
-// cut is the beginning of a text that is long.
-func cut(s string) string {
-	if len(s) > 200 {
-		s = s[:200] + "..."
 	}
 	return s
 }
@@ -98,24 +41,7 @@ func short(x any) string {
 }
 
 // raw puts bytes together: of numbers, texts and bytes as they are, of values as written has them.
-func raw(parts ...any) []byte {
-	var b []byte
-	for _, p := range parts {
-		switch x := p.(type) {
-		case int:
-			b = append(b, byte(x))
-		case string:
-			b = append(b, x...)
-		case []byte:
-			b = append(b, x...)
-		case api.Val:
-			b = append(b, written(x)...)
-		default:
-			panic(p)
-		}
-	}
-	return b
-}
+func raw(parts ...any) []byte { return sample.Raw(written, parts...) }
 
 // varint is a varint by another hand.
 func varint(n uint64) []byte { return binary.AppendUvarint(nil, n) }
@@ -310,28 +236,7 @@ func putsNone(t *testing.T, v api.Val, want api.Errno) {
 
 // random makes a good value of at most that depth.
 func random(r *rand.Rand, depth int) api.Val {
-	kind := 1 + r.Intn(6)
-	if depth == 0 {
-		kind = 1 + r.Intn(4)
-	}
-	v := api.Val{Kind: kind}
-	switch kind {
-	case api.Bool:
-		v.N = int64(r.Intn(2))
-	case api.Int:
-		v.N = int64(r.Uint64()) >> r.Intn(64)
-	case api.Text:
-		v.S = []string{"", "a", "a\x00", "ab", "\u00e4", "\u20ac", "\U0001f600", as(130)}[r.Intn(8)]
-	case api.List:
-		for range r.Intn(4) {
-			v.L = append(v.L, random(r, depth-1))
-		}
-	case api.Doc:
-		for _, name := range []string{"\x00", "a", "aa", "b", "\u00e4"} {
-			if r.Intn(2) == 0 {
-				v.F = append(v.F, field(name, random(r, depth-1)))
-			}
-		}
-	}
-	return v
+	texts := []string{"", "a", "a\x00", "ab", "\u00e4", "\u20ac", "\U0001f600", as(130)}
+	names := []string{"\x00", "a", "aa", "b", "\u00e4"}
+	return sample.Maker{Chance: r, Texts: texts, Names: names}.Value(depth)
 }

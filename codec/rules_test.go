@@ -4,12 +4,11 @@ import (
 	"fmt"
 	"math/rand"
 	"slices"
-	"strings"
 	"testing"
-	"unsafe"
 
 	"tidemark/api"
 	"tidemark/codec"
+	"tidemark/sample"
 	"tidemark/value"
 )
 
@@ -61,103 +60,9 @@ func TestOneBehindTheOther(t *testing.T) {
 	}
 }
 
-// withRoom is v with spare room, filled with marks, behind each of its lists.
-func withRoom(v api.Val) api.Val {
-	l := make([]api.Val, 0, len(v.L)+3)
-	for _, x := range v.L {
-		l = append(l, withRoom(x))
-	}
-	f := make([]api.Field, 0, len(v.F)+3)
-	for _, x := range v.F {
-		f = append(f, field(strings.Clone(x.Name), withRoom(x.V)))
-	}
-	mark := text("mark")
-	copy(l[len(l):cap(l)], []api.Val{mark, mark, mark})
-	copy(f[len(f):cap(f)], []api.Field{field("m", mark), field("a", mark), field("", mark)})
-	v.L, v.F, v.S = l, f, strings.Clone(v.S)
-	return v
-}
-
-// showRoom tells all of a value, the spare room of its lists too.
-func showRoom(v api.Val) string {
-	s := show(api.Val{Kind: v.Kind, N: v.N, S: v.S})
-	for _, x := range v.L[:cap(v.L)] {
-		s += "," + showRoom(x)
-	}
-	for _, x := range v.F[:cap(v.F)] {
-		s += ";" + x.Name + showRoom(x.V)
-	}
-	return s
-}
-
-// span is where something lies.
-type span struct{ from, to uintptr }
-
-// spanOf tells where so many things of that size lie.
-func spanOf(at unsafe.Pointer, n int, size uintptr) span {
-	return span{uintptr(at), uintptr(at) + uintptr(n)*size}
-}
-
-// memory tells where the lists and texts of a value lie, spare room too. (Texts of one byte are the language's own.)
-func memory(v api.Val) []span {
-	l := []span{
-		spanOf(unsafe.Pointer(unsafe.SliceData(v.L)), cap(v.L), unsafe.Sizeof(api.Val{})),
-		spanOf(unsafe.Pointer(unsafe.SliceData(v.F)), cap(v.F), unsafe.Sizeof(api.Field{})),
-	}
-	texts := []string{v.S}
-	for _, x := range v.L {
-		l = append(l, memory(x)...)
-	}
-	for _, x := range v.F {
-		texts = append(texts, x.Name)
-		l = append(l, memory(x.V)...)
-	}
-	for _, s := range texts {
-		if len(s) > 1 {
-			l = append(l, spanOf(unsafe.Pointer(unsafe.StringData(s)), len(s), 1))
-		}
-	}
-	return slices.DeleteFunc(l, func(s span) bool { return s.from == s.to })
-}
-
-func memoryOfReply(r api.Reply) []span {
-	return memory(api.Val{Kind: api.List, L: r.Docs})
-}
-
-func memoryOfBytes(b []byte) []span {
-	if cap(b) == 0 {
-		return nil
-	}
-	return []span{spanOf(unsafe.Pointer(unsafe.SliceData(b)), cap(b), 1)}
-}
-
-// overlap tells whether two of the spans share memory.
-func overlap(lists ...[]span) bool {
-	l := slices.Concat(lists...)
-	for i, p := range l {
-		for _, q := range l[i+1:] {
-			if p.from < q.to && q.from < p.to {
-				return true
-			}
-		}
-	}
-	return false
-}
-
-// samples are good values that hold lists in lists.
-func samples() []api.Val {
-	return []api.Val{
-		doc(field("aa", list(list(text("xyz"), number(1)), doc(field("bb", list(null, null, null)), field("cc", text("yes"))))), field("bb", text("long enough"))),
-		list(list(), list(null), list(null, list(null)), text("ab"), text("ab")),
-		doc(field("aa", doc()), field("bb", doc(field("aa", list(text("ab")))))),
-		text("abc"),
-		null,
-	}
-}
-
 // R4: what is handed in stays as it is, spare room too, whether it is taken or refused.
 func TestListsStay(t *testing.T) {
-	for _, v := range append(samples(), nulls(40), doc(field("b", list(null)), field("a", null)), list(text("\xff"))) {
+	for _, v := range append(sample.Nested(), nulls(40), doc(field("b", list(null)), field("a", null)), list(text("\xff"))) {
 		a := withRoom(v)
 		r := api.Reply{E: 1, N: 1, Docs: []api.Val{a, withRoom(v), null, null}[:2]}
 		was, wasReply := showRoom(a), showRoom(list(r.Docs...))
@@ -167,7 +72,7 @@ func TestListsStay(t *testing.T) {
 			t.Errorf("%s was changed", short(v))
 		}
 	}
-	for _, v := range samples() {
+	for _, v := range sample.Nested() {
 		b := raw(0, 0, 2, v, v, 1, 2, 3)
 		all := slices.Clone(b)
 		for n := range b {
@@ -185,27 +90,27 @@ func TestListsStay(t *testing.T) {
 
 // R4: what is answered is new memory, and no two of its lists share any.
 func TestAnswersAreNew(t *testing.T) {
-	for _, v := range samples() {
+	for _, v := range sample.Nested() {
 		a := withRoom(v)
 		b, _ := codec.Put(a)
 		c, _ := codec.Put(a)
 		x, _ := codec.Get(b)
 		y, _ := codec.Get(b)
 		z, _, _ := codec.Take(b, 0)
-		if overlap(memory(a), memoryOfBytes(b), memoryOfBytes(c), memory(x), memory(y), memory(z)) {
+		if !sample.Apart([]api.Val{a, x, y, z}, b, c) {
 			t.Errorf("%s: answers share memory", short(v))
 		}
-		r := api.Reply{Docs: []api.Val{a, a, withRoom(v)}}
+		r := api.Reply{Docs: []api.Val{withRoom(v), withRoom(v)}}
 		d, _ := codec.PutReply(r)
 		f, _ := codec.PutReply(r)
 		q, _ := codec.GetReply(d)
 		s, _ := codec.GetReply(d)
-		if overlap(memoryOfBytes(d), memoryOfBytes(f), memoryOfReply(q), memoryOfReply(s), memory(a)) {
+		if !sample.Apart([]api.Val{list(r.Docs...), list(q.Docs...), list(s.Docs...)}, d, f) {
 			t.Errorf("%s: answers of replies share memory", short(v))
 		}
 	}
 	for _, n := range []uint64{0, 1, 300, 1<<64 - 1} {
-		if overlap(memoryOfBytes(codec.Varint(n)), memoryOfBytes(codec.Varint(n))) {
+		if !sample.Apart(nil, codec.Varint(n), codec.Varint(n)) {
 			t.Errorf("Varint of %d: answers share memory", n)
 		}
 	}
@@ -213,7 +118,7 @@ func TestAnswersAreNew(t *testing.T) {
 
 // R4: an answer hangs no more on what was handed in.
 func TestNothingIsKept(t *testing.T) {
-	for _, v := range samples() {
+	for _, v := range sample.Nested() {
 		b := written(v)
 		d := raw(0, 0, 2, v, v)
 		x, _ := codec.Get(b)

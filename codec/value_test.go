@@ -9,6 +9,7 @@ import (
 
 	"tidemark/api"
 	"tidemark/codec"
+	"tidemark/sample"
 	"tidemark/value"
 )
 
@@ -60,39 +61,8 @@ func TestBytesOfValues(t *testing.T) {
 
 // P3.2: Put tells value.Good's errors, each by itself, and the first one of two.
 func TestPutBad(t *testing.T) {
-	for _, c := range []struct {
-		v api.Val
-		e api.Errno
-	}{
-		{api.Val{}, api.ErrForm},
-		{api.Val{Kind: 7}, api.ErrForm},
-		{api.Val{Kind: -1}, api.ErrForm},
-		{api.Val{Kind: 256 + api.Null}, api.ErrForm},
-		{api.Val{Kind: api.Null, N: 1}, api.ErrForm},
-		{api.Val{Kind: api.Int, S: "a"}, api.ErrForm},
-		{api.Val{Kind: api.Doc, L: []api.Val{null}}, api.ErrForm},
-		{boolean(2), api.ErrForm},
-		{boolean(256), api.ErrForm},
-		{doc(field("b", null), field("a", null)), api.ErrForm},
-		{doc(field("a", null), field("a", null)), api.ErrForm},
-		{text("\xff"), api.ErrText},
-		{doc(field("\xff", null)), api.ErrText},
-		{nulls(33), api.ErrLimit},
-		{fields(33), api.ErrLimit},
-		{doc(field("", null)), api.ErrLimit},
-		{doc(field(as(25), null)), api.ErrLimit},
-		{deepLists(9), api.ErrDeep},
-		{deepDocs(9), api.ErrDeep},
-		{text(as(2046)), api.ErrBig},
-		{list(text(as(1022)), text(as(1022))), api.ErrBig},
-		{list(text(as(3000)), text("\xff"), boolean(2)), api.ErrForm},
-		{list(deepLists(8), nulls(33), text("\xff")), api.ErrText},
-		{list(text(as(3000)), deepLists(8)), api.ErrDeep},
-	} {
-		putsNone(t, c.v, c.e)
-		if e := value.Good(c.v); e != c.e {
-			t.Errorf("Good of %s: %d, want %d", short(c.v), int(e), int(c.e))
-		}
+	for _, f := range sample.Bad() {
+		putsNone(t, f.V, f.E)
 	}
 }
 
@@ -376,26 +346,8 @@ func TestAllShortBytes(t *testing.T) {
 
 // changed makes some change to bytes, in new memory.
 func changed(r *rand.Rand, b []byte) []byte {
-	b = slices.Clone(b)
-	at := r.Intn(len(b) + 1)
 	some := []byte{0, 1, 2, 3, 4, 5, 6, 7, 24, 25, 32, 33, 97, 98, 127, 128, 129, 195, 255}
-	c := some[r.Intn(len(some))]
-	switch r.Intn(5) {
-	case 0:
-		return b[:at]
-	case 1:
-		return slices.Insert(b, at, c)
-	case 2:
-		return slices.Insert(b, at, written(random(r, 2))...)
-	}
-	if at == len(b) {
-		return append(b, c)
-	}
-	if r.Intn(4) == 0 {
-		return slices.Delete(b, at, at+1)
-	}
-	b[at] = c
-	return b
+	return sample.Changed(r, b, some, written(random(r, 2)))
 }
 
 // P3.2, P3.4: bytes of values with faults put into them by chance.

@@ -10,78 +10,20 @@ import (
 
 	"tidemark/api"
 	"tidemark/json"
+	"tidemark/sample"
 	"tidemark/utf"
 	"tidemark/value"
 )
 
-var null = api.Val{Kind: api.Null}
-
-func boolean(n int64) api.Val { return api.Val{Kind: api.Bool, N: n} }
-
-func number(n int64) api.Val { return api.Val{Kind: api.Int, N: n} }
-
-func text(s string) api.Val { return api.Val{Kind: api.Text, S: s} }
-
-func list(l ...api.Val) api.Val { return api.Val{Kind: api.List, L: l} }
-
-func doc(l ...api.Field) api.Val { return api.Val{Kind: api.Doc, F: l} }
-
-func field(name string, v api.Val) api.Field { return api.Field{Name: name, V: v} }
-
-// nulls is a List of n Nulls.
-func nulls(n int) api.Val { return list(slices.Repeat([]api.Val{null}, n)...) }
-
-// fields is a Doc of n fields with rising names.
-func fields(n int) api.Val {
-	d := doc()
-	for i := range n {
-		d.F = append(d.F, field(fmt.Sprintf("f%02d", i), null))
-	}
-	return d
-}
-
-// deepLists is n Lists within one another.
-func deepLists(n int) api.Val {
-	v := list()
-	for range n - 1 {
-		v = list(v)
-	}
-	return v
-}
-
-// deepDocs is n Docs within one another.
-func deepDocs(n int) api.Val {
-	v := doc()
-	for range n - 1 {
-		v = doc(field("a", v))
-	}
-	return v
-}
-
-// as is a text of n letters.
-func as(n int) string { return strings.Repeat("a", n) }
-
-// show tells all of a value; nil and an empty list alike.
-func show(v api.Val) string {
-	var l, f []string
-	for _, x := range v.L {
-		l = append(l, show(x))
-	}
-	for _, x := range v.F {
-		f = append(f, fmt.Sprintf("%q:%s", x.Name, show(x.V)))
-	}
-	return fmt.Sprintf("<%d %d %q [%s] {%s}>", v.Kind, v.N, v.S, strings.Join(l, " "), strings.Join(f, " "))
-}
-
-// cut is the beginning of a text that is long.
-func cut(s string) string {
-	if len(s) > 200 {
-		s = s[:200] + "..."
-	}
-	return s
-}
-
-func short(v api.Val) string { return cut(show(v)) }
+// The values that the tests are made of, by short names.
+var (
+	null, boolean, number, text = sample.Null(), sample.Bool, sample.Int, sample.Text
+	list, doc, field            = sample.List, sample.Doc, sample.Field
+	nulls, fields               = sample.Nulls, sample.Fields
+	deepLists, deepDocs         = sample.DeepLists, sample.DeepDocs
+	as, show, cut, short        = sample.Letters, sample.Show, sample.Cut, sample.Short
+	withRoom, showRoom          = sample.WithRoom, sample.ShowRoom
+)
 
 // prints sees to it that Print tells that text of v, and Parse tells v of it.
 func prints(t *testing.T, v api.Val, want string) {
@@ -305,30 +247,9 @@ func handTake(s string, from int) (v api.Val, next int, at int, e api.Errno) {
 
 // random makes a value of at most that depth; nearly all of them are good.
 func random(r *rand.Rand, depth int) api.Val {
-	kind := 1 + r.Intn(6)
-	if depth == 0 {
-		kind = 1 + r.Intn(4)
-	}
-	v := api.Val{Kind: kind}
-	switch kind {
-	case api.Bool:
-		v.N = int64(r.Intn(2))
-	case api.Int:
-		v.N = int64(r.Uint64()) >> r.Intn(64)
-	case api.Text:
-		v.S = []string{"", "a", "\x00\x1f", "a\"b", "\\", "\u00e4\n", "\u20ac/", "\U0001f600", "[1,2]"}[r.Intn(9)]
-	case api.List:
-		for range r.Intn(4) {
-			v.L = append(v.L, random(r, depth-1))
-		}
-	case api.Doc:
-		for _, name := range []string{"\x00", "\"", "a", "aa", "b", "\u00e4"} {
-			if r.Intn(2) == 0 {
-				v.F = append(v.F, field(name, random(r, depth-1)))
-			}
-		}
-	}
-	return v
+	texts := []string{"", "a", "\x00\x1f", "a\"b", "\\", "\u00e4\n", "\u20ac/", "\U0001f600", "[1,2]"}
+	names := []string{"\x00", "\"", "a", "aa", "b", "\u00e4"}
+	return sample.Maker{Chance: r, Texts: texts, Names: names}.Value(depth)
 }
 
 // spread is a text of v by another hand: with blanks between its parts, fields in any order, characters by their numbers.

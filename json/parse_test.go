@@ -207,7 +207,7 @@ func TestFields(t *testing.T) {
 func docOf(n int) string {
 	s := "{"
 	for i := range n {
-		s += fmt.Sprintf(`"f%02d":null,`, i)
+		s += fmt.Sprintf(`"f%05d":null,`, i)
 	}
 	return s
 }
@@ -230,22 +230,22 @@ func TestOneName(t *testing.T) {
 	reads(t, docOf(31)+`"z":null}`, doc(append(fields(31).F, field("z", null))...))
 	full := docOf(32)
 	at := len(full)
-	for _, name := range []string{`"z"`, `"a"`, `""`, `"` + as(25) + `"`, `"f00"`, `"f31"`, `"\u0066\u0030\u0030"`} {
+	for _, name := range []string{`"z"`, `"a"`, `""`, `"` + as(25) + `"`, `"f00000"`, `"f00031"`, `"\u0066\u0030\u0030\u0030\u0030\u0030"`} {
 		fails(t, full+name+":null}", api.ErrLimit, at)
 		fails(t, full+name, api.ErrLimit, at)
 		fails(t, full+"  "+name+" x", api.ErrLimit, at+2)
 	}
-	for _, name := range []string{`"f00`, `"\q"`, `"z\`, "\"\n\"", "x", "}", ",", "]", "1", "null", ":", ""} {
+	for _, name := range []string{`"f00000`, `"\q"`, `"z\`, "\"\n\"", "x", "}", ",", "]", "1", "null", ":", ""} {
 		fails(t, full+name, api.ErrSyntax, at)
 	}
-	for _, name := range []string{"\"f00\xff\"", "\"\xff\"", `"\ud800"`, `"\udfff`, "\"" + as(30) + "\xc3\""} {
+	for _, name := range []string{"\"f00000\xff\"", "\"\xff\"", `"\ud800"`, `"\udfff`, "\"" + as(30) + "\xc3\""} {
 		fails(t, full+name+":null}", api.ErrText, at)
 		fails(t, `{"a":1,`+name+":null}", api.ErrText, 7)
 	}
-	fails(t, docOf(31)+`"f07":null}`, api.ErrDup, len(docOf(31)))
-	fails(t, docOf(31)+`"f07" 1`, api.ErrDup, len(docOf(31)))
+	fails(t, docOf(31)+`"f00007":null}`, api.ErrDup, len(docOf(31)))
+	fails(t, docOf(31)+`"f00007" 1`, api.ErrDup, len(docOf(31)))
 	fails(t, docOf(31)+`"":null}`, api.ErrLimit, len(docOf(31)))
-	fails(t, docOf(31)+`"f07`, api.ErrSyntax, len(docOf(31)))
+	fails(t, docOf(31)+`"f00007`, api.ErrSyntax, len(docOf(31)))
 }
 
 // P4.1: a value that is one too many is told by its first byte alone, whatever stands behind it.
@@ -331,7 +331,7 @@ func TestTwoFaults(t *testing.T) {
 	}{
 		{"nul", api.ErrSyntax, 0}, {"x", api.ErrSyntax, 0}, {"-", api.ErrSyntax, 1}, {"[1 2]", api.ErrSyntax, 3}, {"[1}", api.ErrSyntax, 2}, {`{"a" 1}`, api.ErrSyntax, 5}, {`{"a":}`, api.ErrSyntax, 5}, {"{1:1}", api.ErrSyntax, 1},
 		{`"\q"`, api.ErrSyntax, 0}, {`{"\q":1}`, api.ErrSyntax, 1}, {"01", api.ErrNumber, 0}, {"[1,1.5]", api.ErrNumber, 3}, {"9223372036854775808", api.ErrNumber, 0},
-		{strings.Repeat("[", 8), api.ErrDeep, 7}, {"[" + strings.Repeat("1,", 33), api.ErrLimit, 65}, {docOf(33), api.ErrLimit, 1 + 32*11},
+		{strings.Repeat("[", 8), api.ErrDeep, 7}, {"[" + strings.Repeat("1,", 33), api.ErrLimit, 65}, {docOf(33), api.ErrLimit, len(docOf(32))},
 		{`"\ud800"`, api.ErrText, 0}, {"{\"\xff\":1}", api.ErrText, 1}, {`{"":1}`, api.ErrLimit, 1}, {`{"a":1,"a":2}`, api.ErrDup, 7},
 	}
 	for _, a := range faults {

@@ -8,6 +8,7 @@ import (
 
 	"tidemark/api"
 	"tidemark/json"
+	"tidemark/sample"
 )
 
 // The chapter's examples.
@@ -88,7 +89,7 @@ func TestPrintBad(t *testing.T) {
 
 // R4: what is handed to Print stays as it is; nil and an empty list are one.
 func TestPrintChangesNothing(t *testing.T) {
-	for _, v := range append(samples(), nulls(40), doc(field("b", list(null)), field("a", null)), list(text("\xff"))) {
+	for _, v := range append(sample.Nested(), nulls(40), doc(field("b", list(null)), field("a", null)), list(text("\xff"))) {
 		a := withRoom(v)
 		was := showRoom(a)
 		json.Print(a)

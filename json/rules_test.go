@@ -11,6 +11,7 @@ import (
 
 	"tidemark/api"
 	"tidemark/json"
+	"tidemark/sample"
 	"tidemark/value"
 )
 
@@ -166,35 +167,6 @@ func TestManyParts(t *testing.T) {
 	}
 }
 
-// withRoom is v with spare room, filled with marks, behind each of its lists.
-func withRoom(v api.Val) api.Val {
-	l := make([]api.Val, 0, len(v.L)+3)
-	for _, x := range v.L {
-		l = append(l, withRoom(x))
-	}
-	f := make([]api.Field, 0, len(v.F)+3)
-	for _, x := range v.F {
-		f = append(f, field(strings.Clone(x.Name), withRoom(x.V)))
-	}
-	mark := text("mark")
-	copy(l[len(l):cap(l)], []api.Val{mark, mark, mark})
-	copy(f[len(f):cap(f)], []api.Field{field("m", mark), field("a", mark), field("", mark)})
-	v.L, v.F, v.S = l, f, strings.Clone(v.S)
-	return v
-}
-
-// showRoom tells all of a value, the spare room of its lists too.
-func showRoom(v api.Val) string {
-	s := show(api.Val{Kind: v.Kind, N: v.N, S: v.S})
-	for _, x := range v.L[:cap(v.L)] {
-		s += "," + showRoom(x)
-	}
-	for _, x := range v.F[:cap(v.F)] {
-		s += ";" + x.Name + showRoom(x.V)
-	}
-	return s
-}
-
 // span is where something lies.
 type span struct{ from, to uintptr }
 
@@ -240,21 +212,10 @@ func overlap(lists ...[]span) bool {
 	return false
 }
 
-// samples are good values that hold lists in lists.
-func samples() []api.Val {
-	return []api.Val{
-		doc(field("aa", list(list(text("xyz"), number(1)), doc(field("bb", list(null, null, null)), field("cc", text("yes"))))), field("bb", text("long enough"))),
-		list(list(), list(null), list(null, list(null)), text("ab"), text("ab")),
-		doc(field("aa", doc()), field("bb", doc(field("aa", list(text("ab")))))),
-		text("abc"),
-		null,
-	}
-}
-
 // R4: what is answered is new memory, and no two of its lists share any.
 func TestAnswersAreNew(t *testing.T) {
 	r := rand.New(rand.NewSource(7))
-	for _, v := range samples() {
+	for _, v := range sample.Nested() {
 		a := withRoom(v)
 		s, _ := json.Print(a)
 		q, _ := json.Print(a)
@@ -274,7 +235,7 @@ func TestAnswersAreNew(t *testing.T) {
 
 // R4: an answer hangs no more on what was handed in.
 func TestNothingIsKept(t *testing.T) {
-	for _, v := range samples() {
+	for _, v := range sample.Nested() {
 		a := withRoom(v)
 		s, _ := json.Print(a)
 		b := []byte(s)

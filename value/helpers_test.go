@@ -2,80 +2,24 @@ package value_test
 
 import (
 	"encoding/binary"
-	"fmt"
 	"math/rand"
-	"slices"
 	"strings"
 	"testing"
 
 	"tidemark/api"
+	"tidemark/sample"
 	"tidemark/value"
 )
 
-var null = api.Val{Kind: api.Null}
-
-func boolean(n int64) api.Val { return api.Val{Kind: api.Bool, N: n} }
-
-func number(n int64) api.Val { return api.Val{Kind: api.Int, N: n} }
-
-func text(s string) api.Val { return api.Val{Kind: api.Text, S: s} }
-
-func list(l ...api.Val) api.Val { return api.Val{Kind: api.List, L: l} }
-
-func doc(l ...api.Field) api.Val { return api.Val{Kind: api.Doc, F: l} }
-
-func field(name string, v api.Val) api.Field { return api.Field{Name: name, V: v} }
-
-// nulls is a List of n Nulls.
-func nulls(n int) api.Val { return list(slices.Repeat([]api.Val{null}, n)...) }
-
-// fields is a Doc of n fields with rising names.
-func fields(n int) api.Val {
-	d := doc()
-	for i := range n {
-		d.F = append(d.F, field(fmt.Sprintf("f%05d", i), null))
-	}
-	return d
-}
-
-// deepLists is n Lists within one another.
-func deepLists(n int) api.Val {
-	v := list()
-	for range n - 1 {
-		v = list(v)
-	}
-	return v
-}
-
-// deepDocs is n Docs within one another.
-func deepDocs(n int) api.Val {
-	v := doc()
-	for range n - 1 {
-		v = doc(field("a", v))
-	}
-	return v
-}
-
-// show tells all of a value; nil and an empty list alike.
-func show(v api.Val) string {
-	var l, f []string
-	for _, x := range v.L {
-		l = append(l, show(x))
-	}
-	for _, x := range v.F {
-		f = append(f, fmt.Sprintf("%q:%s", x.Name, show(x.V)))
-	}
-	return fmt.Sprintf("<%d %d %q [%s] {%s}>", v.Kind, v.N, v.S, strings.Join(l, " "), strings.Join(f, " "))
-}
-
-// short is show, cut off.
-func short(v api.Val) string {
-	s := show(v)
-	if len(s) > 200 {
-		s = s[:200] + "..."
-	}
-	return s
-}
+// The values that the tests are made of, by short names.
+var (
+	null, boolean, number, text = sample.Null(), sample.Bool, sample.Int, sample.Text
+	list, doc, field            = sample.List, sample.Doc, sample.Field
+	nulls, fields               = sample.Nulls, sample.Fields
+	deepLists, deepDocs         = sample.DeepLists, sample.DeepDocs
+	show, short                 = sample.Show, sample.Short
+	withRoom, showRoom          = sample.WithRoom, sample.ShowRoom
+)
 
 // isGood sees to it that Good, Size and Hash tell that error of v.
 func isGood(t *testing.T, v api.Val, want api.Errno) {
@@ -123,33 +67,15 @@ func writtenText(s string) []byte {
 
 // random makes a value of at most that depth; a bad one at times, if it may be.
 func random(r *rand.Rand, depth int, bad bool) api.Val {
-	kind := 1 + r.Intn(6)
-	if depth == 0 {
-		kind = 1 + r.Intn(4)
-	}
-	v := api.Val{Kind: kind}
-	switch kind {
-	case api.Bool:
-		v.N = int64(r.Intn(2))
-	case api.Int:
-		v.N = int64(r.Uint64()) >> r.Intn(64)
-	case api.Text:
-		v.S = []string{"", "a", "a\x00", "ab", "\u00e4", "\u20ac", "\U0001f600"}[r.Intn(7)]
-	case api.List:
-		for range r.Intn(4) {
-			v.L = append(v.L, random(r, depth-1, bad))
+	texts := []string{"", "a", "a\x00", "ab", "\u00e4", "\u20ac", "\U0001f600"}
+	names := []string{"\x00", "a", "aa", "b", "\u00e4"}
+	spoil := func(v api.Val) api.Val {
+		if bad && r.Intn(12) == 0 {
+			return spoilt(r, v)
 		}
-	case api.Doc:
-		for _, name := range []string{"\x00", "a", "aa", "b", "\u00e4"} {
-			if r.Intn(2) == 0 {
-				v.F = append(v.F, field(name, random(r, depth-1, bad)))
-			}
-		}
+		return v
 	}
-	if bad && r.Intn(12) == 0 {
-		v = spoilt(r, v)
-	}
-	return v
+	return sample.Maker{Chance: r, Texts: texts, Names: names, Spoil: spoil}.Value(depth)
 }
 
 // spoilt puts some fault into a value.

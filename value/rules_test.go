@@ -10,35 +10,6 @@ import (
 	"tidemark/value"
 )
 
-// withRoom is v with spare room, filled with marks, behind each of its lists.
-func withRoom(v api.Val) api.Val {
-	l := make([]api.Val, 0, len(v.L)+3)
-	for _, x := range v.L {
-		l = append(l, withRoom(x))
-	}
-	f := make([]api.Field, 0, len(v.F)+3)
-	for _, x := range v.F {
-		f = append(f, field(strings.Clone(x.Name), withRoom(x.V)))
-	}
-	mark := text("mark")
-	copy(l[len(l):cap(l)], []api.Val{mark, mark, mark})
-	copy(f[len(f):cap(f)], []api.Field{field("m", mark), field("a", mark), field("", mark)})
-	v.L, v.F, v.S = l, f, strings.Clone(v.S)
-	return v
-}
-
-// showRoom tells all of a value, the spare room of its lists too.
-func showRoom(v api.Val) string {
-	s := show(api.Val{Kind: v.Kind, N: v.N, S: v.S})
-	for _, x := range v.L[:cap(v.L)] {
-		s += "," + showRoom(x)
-	}
-	for _, x := range v.F[:cap(v.F)] {
-		s += ";" + x.Name + showRoom(x.V)
-	}
-	return s
-}
-
 // memory tells where the lists and texts of a value lie, spare room too.
 func memory(v api.Val, places [][2]uintptr) [][2]uintptr {
 	add := func(at unsafe.Pointer, size uintptr) {
