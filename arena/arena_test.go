@@ -5,6 +5,7 @@ import (
 
 	"tidemark/api"
 	"tidemark/arena"
+	"tidemark/sample"
 )
 
 // The examples of chapter 7.
@@ -32,7 +33,7 @@ func TestExamples(t *testing.T) {
 
 // P7.1: New refuses what is not from 1 to MaxWords.
 func TestNew(t *testing.T) {
-	for _, n := range anywhere(1, api.MaxWords) {
+	for _, n := range sample.Numbers(1, api.MaxWords) {
 		a, e := arena.New(n)
 		if n < 1 || n > 1048576 {
 			tells(t, line("New", n), line(a == nil, e), true, api.ErrArg)
@@ -68,7 +69,7 @@ func TestAllocTakes(t *testing.T) {
 // P7.1: an object's tag, references, size and owner beyond their ends: ErrArg, also where there is no room.
 func TestAllocRefuses(t *testing.T) {
 	refused := []asked{{1, 0, 4097, 0}, {1, 4097, 4096, 0}, {1, 2, 1, 0}, {1, 1, 0, 0}}
-	for _, n := range anywhere(-256, -255) {
+	for _, n := range sample.Numbers(-256, -255) {
 		refused = append(refused, asked{min(n, 0), 0, 1, 0}, asked{max(256, n), 0, 1, 0}, asked{n, n, n, -1},
 			asked{1, 0, min(-1, n), 0}, asked{1, 0, max(4097, n), 0}, asked{1, min(-1, n), 1, 0}, asked{1, max(2, n), 1, 0},
 			asked{1, 0, 1, min(-1, n)}, asked{1, 0, 1, max(1048576, n)})

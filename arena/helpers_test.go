@@ -2,7 +2,6 @@ package arena_test
 
 import (
 	"fmt"
-	"math"
 	"testing"
 
 	"tidemark/api"
@@ -66,15 +65,6 @@ func one[T any](x T, e api.Errno) string   { return line(x, e) }
 func two(from, to int, e api.Errno) string { return line(from, to, e) }
 func gap(low, high int, open bool) string  { return line(low, high, open) }
 func bounds(a *arena.Arena) string         { return line(a.Words(), a.Top(), a.Free()) }
-
-// anywhere is these numbers, others of all kinds, and those beside them.
-func anywhere(these ...int) []int {
-	var l []int
-	for _, n := range append(these, 0, math.MinInt, math.MaxInt, 1<<31, 1<<32, -1<<31) {
-		l = append(l, n-1, n, n+1)
-	}
-	return l
-}
 
 // picture shows all that an arena tells, of every place within it and some beside it.
 func picture(a *arena.Arena) string {

@@ -5,6 +5,7 @@ import (
 
 	"tidemark/api"
 	"tidemark/arena"
+	"tidemark/sample"
 )
 
 // nothing sees to it that no object begins at a place: all that are handed it refuse it, and change nothing.
@@ -15,7 +16,7 @@ func nothing(t *testing.T, a *arena.Arena, at int) {
 	tells(t, line("Next", at), one(a.Next(at)), 0, api.ErrArg)
 	tells(t, line("Mark on", at), line(a.Mark(at, true)), api.ErrArg)
 	tells(t, line("Mark off", at), line(a.Mark(at, false)), api.ErrArg)
-	for _, i := range anywhere(at, -at) {
+	for _, i := range sample.Numbers(at, -at) {
 		tells(t, line("Get", at, i), one(a.Get(at, i)), 0, api.ErrArg)
 		tells(t, line("Put", at, i), line(a.Put(at, i, 77)), api.ErrArg)
 	}
@@ -28,7 +29,7 @@ func nothing(t *testing.T, a *arena.Arena, at int) {
 func TestNoObject(t *testing.T) {
 	a := laid(t, 100, 2, 0, 70, 1)
 	begins := map[int]int{0: 1, 3: 1, 4: 1, 75: 1}
-	for _, at := range anywhere(64, 128, 1048576, 77, 100) {
+	for _, at := range sample.Numbers(64, 128, 1048576, 77, 100) {
 		if begins[at] == 0 {
 			nothing(t, a, at)
 		}
@@ -40,7 +41,7 @@ func TestNoObject(t *testing.T) {
 			t.Errorf("Head(%d): %v, %d", at, h, int(e))
 		}
 	}
-	for _, at := range anywhere() {
+	for _, at := range sample.Numbers() {
 		nothing(t, made(t, 5), at)
 	}
 }
@@ -143,7 +144,7 @@ func TestMark(t *testing.T) {
 func TestGetPut(t *testing.T) {
 	a := laid(t, 20, 2, 3, 0, 1)
 	for _, c := range []struct{ at, size int }{{0, 2}, {3, 3}, {7, 0}, {8, 1}} {
-		for _, i := range anywhere(c.size, 1, 2, 3) {
+		for _, i := range sample.Numbers(c.size, 1, 2, 3) {
 			if 0 <= i && i < c.size {
 				tells(t, line("Put", c.at, i), line(a.Put(c.at, i, 1<<63+uint64(i))), api.OK)
 				tells(t, line("Get", c.at, i), one(a.Get(c.at, i)), 1<<63+uint64(i), api.OK)

@@ -6,12 +6,13 @@ import (
 
 	"tidemark/api"
 	"tidemark/arena"
+	"tidemark/sample"
 )
 
 // R1: no call panics, whatever numbers it is handed; what is refused changes nothing (R3), beside zero values (R2).
 func TestAnyNumbers(t *testing.T) {
 	a := &pair{made(t, 100), &other{room: 100}}
-	numbers := anywhere(3)
+	numbers := sample.Numbers(3)
 	for range 2 {
 		for _, tag := range numbers {
 			for _, refs := range numbers {
@@ -43,7 +44,7 @@ func TestNoArena(t *testing.T) {
 	refuses(t, a, api.ErrEnd, "Keep", "Skip")
 	tells(t, "Close", line(a.Close()), api.OK)
 	a, _ = arena.New(-1)
-	for _, at := range anywhere() {
+	for _, at := range sample.Numbers() {
 		nothing(t, a, at)
 	}
 	tells(t, "the arena", bounds(a), 0, 0, 0)

@@ -6,6 +6,7 @@ import (
 
 	"tidemark/api"
 	"tidemark/handle"
+	"tidemark/sample"
 )
 
 // The examples of chapter 8.
@@ -23,7 +24,7 @@ func TestExamples(t *testing.T) {
 
 // P8.1: New refuses what is not from 1 to MaxHandles; all slots of a new table are free.
 func TestNew(t *testing.T) {
-	for _, n := range anywhere(1, 2, 1048576) {
+	for _, n := range sample.Numbers(1, 2, 1048576) {
 		x, e := handle.New(n)
 		if n < 1 || n > 1048576 {
 			tells(t, line("New", n), line(x == nil, e), true, api.ErrArg)

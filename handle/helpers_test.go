@@ -66,15 +66,6 @@ func line(answers ...any) string {
 // one shows what a call answers beside its error.
 func one[T any](x T, e api.Errno) string { return line(x, e) }
 
-// anywhere is these numbers, others of all kinds, and those beside them.
-func anywhere(these ...int) []int {
-	var l []int
-	for _, n := range append(these, 0, math.MinInt, math.MaxInt, 1<<31, 1<<32, -1<<31) {
-		l = append(l, n-1, n, n+1)
-	}
-	return l
-}
-
 // odd are handles that no table of at most so many slots tells, while each was freed fewer than 1000 times: 0, the
 // greatest number, slots beyond the table, generations that no slot has.
 func odd(slots int) []uint64 {

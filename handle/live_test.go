@@ -6,6 +6,7 @@ import (
 
 	"tidemark/api"
 	"tidemark/handle"
+	"tidemark/sample"
 )
 
 // holds sees to it that a handle is live, with that slot and that number.
@@ -97,7 +98,7 @@ func TestOf(t *testing.T) {
 		x := made(t, slots)
 		beyond := func() {
 			t.Helper()
-			for _, slot := range append(anywhere(slots+1), -2, -slots, 2*slots) {
+			for _, slot := range append(sample.Numbers(slots+1), -2, -slots, 2*slots) {
 				if slot < 0 || slot >= slots {
 					tells(t, line("Of", slot), one(x.Of(slot)), 0, api.ErrArg)
 				}

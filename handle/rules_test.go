@@ -6,6 +6,7 @@ import (
 
 	"tidemark/api"
 	"tidemark/handle"
+	"tidemark/sample"
 )
 
 // none sees to it that a table without slots tells nothing, at all arguments.
@@ -13,7 +14,7 @@ func none(t *testing.T, x *handle.Table) {
 	t.Helper()
 	for range 2 {
 		tells(t, "Slots, Count, Live", line(x.Slots(), x.Count(), len(x.Live())), 0, 0, 0)
-		for _, n := range anywhere(7) {
+		for _, n := range sample.Numbers(7) {
 			want := api.ErrFull
 			if n < 0 {
 				want = api.ErrArg
@@ -38,7 +39,7 @@ func TestNoTable(t *testing.T) {
 // R1: no call panics, whatever numbers it is handed; each is as the other hand has it.
 func TestAnyNumbers(t *testing.T) {
 	a := &pair{made(t, 30), &other{slots: 30}}
-	numbers := anywhere(3, 29, 1048576)
+	numbers := sample.Numbers(3, 29, 1048576)
 	for range 3 {
 		for _, at := range numbers {
 			tells(t, line("Make", at), one(a.table.Make(at)), a.other.make(at))

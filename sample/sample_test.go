@@ -1,7 +1,9 @@
 package sample_test
 
 import (
+	"math"
 	"math/rand"
+	"slices"
 	"testing"
 
 	"tidemark/api"
@@ -84,5 +86,19 @@ func TestGoodAndBad(t *testing.T) {
 	}
 	if len(seen) != 6 {
 		t.Errorf("kinds: %v", seen)
+	}
+}
+
+// Numbers tells the numbers it is handed with those beside them, and changes no list.
+func TestNumbers(t *testing.T) {
+	these := []int{7, 20, 30}
+	l := sample.Numbers(these[:1]...)
+	for _, n := range []int{6, 7, 8, -1, 0, 1, math.MinInt, math.MaxInt, math.MaxInt - 1, math.MinInt + 1, 1 << 31, 1<<32 - 1, -1 << 31} {
+		if !slices.Contains(l, n) {
+			t.Errorf("%d is missing", n)
+		}
+	}
+	if slices.Contains(l, 20) || !slices.Equal(these, []int{7, 20, 30}) {
+		t.Errorf("the numbers %d, of %d", l, these)
 	}
 }
