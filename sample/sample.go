@@ -1,4 +1,4 @@
-// Package sample: values to test with, and texts that tell all of them. It is called by tests alone.
+// Package sample: values and numbers to test with, and texts that tell all of a value. It is called by tests alone.
 package sample
 
 import (
