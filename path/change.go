@@ -5,6 +5,7 @@ import (
 	"strings"
 
 	"tidemark/api"
+	"tidemark/naming"
 )
 
 // lead tells where the steps lead from v; false: nowhere.
@@ -47,7 +48,7 @@ func put(v api.Val, steps []string, more ...api.Val) (api.Val, api.Errno) {
 
 // find tells which of v's parts a step leads to; if it names a field that is not there, which it would be.
 func find(v api.Val, step string) (at int, there bool, e api.Errno) {
-	if isName(step) {
+	if naming.IsName(step) {
 		if v.Kind != api.Doc {
 			return 0, false, api.ErrKind
 		}
@@ -57,20 +58,11 @@ func find(v api.Val, step string) (at int, there bool, e api.Errno) {
 	if v.Kind != api.List {
 		return 0, false, api.ErrKind
 	}
-	at = place(step)
+	at, _ = naming.Place(step)
 	if at >= len(v.L) {
 		return 0, false, api.ErrName
 	}
 	return at, true, api.OK
-}
-
-// place is the number that a step's digits tell.
-func place(step string) int {
-	n := 0
-	for _, r := range step {
-		n = 10*n + int(r-'0')
-	}
-	return n
 }
 
 // part is that part of a Doc or a List.

@@ -1,6 +1,9 @@
 package path
 
-import "tidemark/api"
+import (
+	"tidemark/api"
+	"tidemark/naming"
+)
 
 // maxSteps is how many steps a path may have, longest how many bytes.
 const (
@@ -22,7 +25,7 @@ func Steps(p string) ([]string, api.Errno) {
 			continue
 		}
 		step := p[begin:i]
-		if !isName(step) && !isPlace(step) || len(steps) == maxSteps {
+		if !isStep(step) || len(steps) == maxSteps {
 			return nil, api.ErrSyntax
 		}
 		steps = append(steps, step)
@@ -31,25 +34,8 @@ func Steps(p string) ([]string, api.Errno) {
 	return steps, api.OK
 }
 
-func isName(s string) bool {
-	for i, r := range s {
-		if !isLetter(r) && (i == 0 || !isDigit(r)) {
-			return false
-		}
-	}
-	return s != "" && len(s) <= api.MaxName
+// isStep tells whether s is a name or a place.
+func isStep(s string) bool {
+	_, ok := naming.Place(s)
+	return ok || naming.IsName(s)
 }
-
-func isPlace(s string) bool {
-	for _, r := range s {
-		if !isDigit(r) {
-			return false
-		}
-	}
-	return len(s) == 1 || len(s) == 2 && s[0] != '0'
-}
-
-// isLetter tells whether a name may begin with r.
-func isLetter(r rune) bool { return 'a' <= r && r <= 'z' || 'A' <= r && r <= 'Z' || r == '_' }
-
-func isDigit(r rune) bool { return '0' <= r && r <= '9' }
