@@ -5,7 +5,7 @@ import (
 	"strings"
 
 	"tidemark/api"
-	"tidemark/utf"
+	"tidemark/quoted"
 	"tidemark/value"
 )
 
@@ -212,31 +212,9 @@ none:
 
 // text reads a quoted text.
 func (r *reader) text() (string, api.Errno) {
-	n := quoted(r.s[r.at:])
-	s, e := utf.Unquote(r.s[r.at : r.at+n])
-	switch e {
-	case api.OK:
-		r.at += n
-	case api.ErrForm:
-		e = api.ErrSyntax
-	}
+	s, n, e := quoted.Take(r.s[r.at:])
+	r.at += n
 	return s, e
-}
-
-// quoted tells how many bytes the quoted text has that s begins with: all that there are, if it has no end.
-func quoted(s string) int {
-	behind := false // a `\`, so that the character stands for no end
-	for i, c := range s {
-		switch {
-		case behind:
-			behind = false
-		case c == '\\':
-			behind = true
-		case c == '"' && i > 0:
-			return i + 1
-		}
-	}
-	return len(s)
 }
 
 // blanks goes over blanks.

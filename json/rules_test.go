@@ -279,14 +279,7 @@ func TestAnyBytes(t *testing.T) {
 	r := rand.New(rand.NewSource(8))
 	const likely = "[]{},:\"\\ \n0123456789-.eEtrufalsn"
 	for range 50000 {
-		b := make([]byte, r.Intn(40))
-		for i := range b {
-			b[i] = likely[r.Intn(len(likely))]
-			if r.Intn(10) == 0 {
-				b[i] = byte(r.Intn(256))
-			}
-		}
-		s := string(b)
+		s := sample.AnyText(r, likely, 40, 10)
 		from := r.Intn(len(s)+5) - 2
 		tell := func() string {
 			v, next, at, e := json.Take(s, from)

@@ -1,23 +1,26 @@
-// Package naming: what one step of a path is, a name or a place, for the layers that go by steps.
+// Package naming: what one step of a path is, a name or a place, and what names are made of, for the layers that go by steps or read words.
 package naming
 
 import "tidemark/api"
 
 // IsName tells whether a step is a name.
-func IsName(step string) bool {
-	for i, r := range step {
-		if !isLetter(r) && (i == 0 || !isDigit(r)) {
+func IsName(step string) bool { return len(step) <= api.MaxName && IsWord(step) }
+
+// IsWord tells whether s is made as a name is, of however many bytes.
+func IsWord(s string) bool {
+	for i, r := range s {
+		if !IsLetter(r) && (i == 0 || !IsDigit(r)) {
 			return false
 		}
 	}
-	return step != "" && len(step) <= api.MaxName
+	return s != ""
 }
 
 // Place tells the number of a step that is a place; false: it is none.
 func Place(step string) (int, bool) {
 	n := 0
 	for _, r := range step {
-		if !isDigit(r) {
+		if !IsDigit(r) {
 			return 0, false
 		}
 		n = 10*n + int(r-'0')
@@ -28,7 +31,8 @@ func Place(step string) (int, bool) {
 	return 0, false
 }
 
-// isLetter tells whether a name may begin with r.
-func isLetter(r rune) bool { return 'a' <= r && r <= 'z' || 'A' <= r && r <= 'Z' || r == '_' }
+// IsLetter tells whether a name may begin with r.
+func IsLetter(r rune) bool { return 'a' <= r && r <= 'z' || 'A' <= r && r <= 'Z' || r == '_' }
 
-func isDigit(r rune) bool { return '0' <= r && r <= '9' }
+// IsDigit tells whether r is a digit, which a name may have behind its first letter.
+func IsDigit(r rune) bool { return '0' <= r && r <= '9' }

@@ -39,3 +39,28 @@ func TestNeither(t *testing.T) {
 		}
 	}
 }
+
+// P14.1: Words are made as names are, of however many bytes; no other text is one.
+func TestWords(t *testing.T) {
+	for _, s := range []string{"a", "z", "A", "Z", "_", "a0", "_9", "aZ_0", strings.Repeat("x", 24), strings.Repeat("x", 25), strings.Repeat("_9", 5000)} {
+		if !naming.IsWord(s) {
+			t.Errorf("%q is no Word", s)
+		}
+	}
+	for _, s := range []string{"", "1", "1a", "a-b", "a b", " a", "a ", "a\n", "a.b", "\u00e4", "a\u00e4", "\uff41", "a\xff", strings.Repeat("x", 5000) + "?"} {
+		if naming.IsWord(s) {
+			t.Errorf("%q is a Word", s)
+		}
+	}
+}
+
+// P6.1, P14.1: letters and digits are those of ASCII, with `_` as a letter.
+func TestCharacters(t *testing.T) {
+	const letters, digits = "abcdefghijklmnopqrstuvwxyzABCDEFGHIJKLMNOPQRSTUVWXYZ_", "0123456789"
+	for r := rune(-1); r <= 0x10ffff; r++ {
+		letter, digit := r >= 0 && strings.ContainsRune(letters, r), r >= 0 && strings.ContainsRune(digits, r)
+		if naming.IsLetter(r) != letter || naming.IsDigit(r) != digit {
+			t.Errorf("%x: %v, %v", r, naming.IsLetter(r), naming.IsDigit(r))
+		}
+	}
+}

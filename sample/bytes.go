@@ -46,3 +46,15 @@ func Changed(r Chance, b, some, more []byte) []byte {
 	b[at] = c
 	return b
 }
+
+// AnyText is a text of fewer than most bytes: bytes of likely, but about one in rare of them is whatever byte.
+func AnyText(r Chance, likely string, most, rare int) string {
+	b := make([]byte, r.Intn(most))
+	for i := range b {
+		b[i] = likely[r.Intn(len(likely))]
+		if r.Intn(rare) == 0 {
+			b[i] = byte(r.Intn(256))
+		}
+	}
+	return string(b)
+}

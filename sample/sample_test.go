@@ -4,6 +4,7 @@ import (
 	"math"
 	"math/rand"
 	"slices"
+	"strings"
 	"testing"
 
 	"tidemark/api"
@@ -100,5 +101,20 @@ func TestNumbers(t *testing.T) {
 	}
 	if slices.Contains(l, 20) || !slices.Equal(these, []int{7, 20, 30}) {
 		t.Errorf("the numbers %d, of %d", l, these)
+	}
+}
+
+// AnyText tells texts of all lengths below the one it is handed, of likely bytes and others.
+func TestAnyText(t *testing.T) {
+	r := rand.New(rand.NewSource(2))
+	lengths, others, all := map[int]int{}, 0, 0
+	for range 1000 {
+		s := sample.AnyText(r, "ab", 10, 5)
+		lengths[len(s)]++
+		all += len(s)
+		others += len(s) - strings.Count(s, "a") - strings.Count(s, "b")
+	}
+	if len(lengths) != 10 || lengths[10] != 0 || others < all/10 || others > all/3 {
+		t.Errorf("lengths %v, %d of %d bytes", lengths, others, all)
 	}
 }
