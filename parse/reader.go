@@ -1,0 +1,166 @@
+package parse
+
+import (
+	"slices"
+	"strconv"
+	"strings"
+
+	"tidemark/api"
+	"tidemark/path"
+)
+
+// reader goes down through the tokens that are left; a fault that it meets it throws.
+type reader struct {
+	left   []api.Token // the End is the last one
+	within int         // how many `(` and `not` are begun and not yet ended
+}
+
+// next is the next token.
+func (r *reader) next() api.Token { return r.left[0] }
+
+// sees tells whether the next token is that one.
+func (r *reader) sees(t api.Token) bool { return r.next().Kind == t.Kind && r.next().S == t.S }
+
+// skip passes over the next token, if it is that one.
+func (r *reader) skip(t api.Token) bool {
+	if !r.sees(t) {
+		return false
+	}
+	r.left = r.left[1:]
+	return true
+}
+
+// need passes over the next token, which must be that one.
+func (r *reader) need(t api.Token) {
+	if !r.skip(t) {
+		panic(wrong(r.next()))
+	}
+}
+
+// take passes over the next token, which must be of that kind.
+func (r *reader) take(kind int) api.Token {
+	t := r.next()
+	if t.Kind != kind {
+		panic(wrong(t))
+	}
+	r.left = r.left[1:]
+	return t
+}
+
+// pick passes over the next token, which must be of that kind and one of these.
+func (r *reader) pick(kind int, these ...string) string {
+	t := r.take(kind)
+	if !slices.Contains(these, t.S) {
+		panic(wrong(t))
+	}
+	return t.S
+}
+
+// wrong is the fault that t may not stand where it does.
+func wrong(t api.Token) fault { return fault{t.At, api.ErrSyntax} }
+
+// row reads one part or some, with that token between each two.
+func row[T any](r *reader, between api.Token, part func() T) []T {
+	l := []T{part()}
+	for r.skip(between) {
+		l = append(l, part())
+	}
+	return l
+}
+
+// stmt reads a statement.
+func (r *reader) stmt() api.Stmt {
+	x := api.Stmt{}
+	x.Verb = r.pick(api.Word, verbMake, verbDrop, verbIndex, verbUnindex, verbInsert, verbReplace, verbGet, verbFind, verbCount, verbDelete, verbUpdate)
+	x.Coll = r.name()
+	switch x.Verb {
+	case verbIndex, verbUnindex:
+		x.Path = r.path()
+	case verbInsert, verbReplace, verbGet:
+		x.V = r.value()
+	case verbCount, verbDelete:
+		x.Where = r.where()
+	case verbFind:
+		x.Where = r.where()
+		x.Order = r.order()
+		x.Limit = r.limit()
+		x.Show = r.show()
+	case verbUpdate:
+		x.Where = r.where()
+		x.Changes = row(r, sign(","), r.change)
+	}
+	return x
+}
+
+// name reads a collection's name.
+func (r *reader) name() string {
+	t := r.take(api.Word)
+	if len(t.S) > api.MaxName {
+		panic(fault{t.At, api.ErrLimit})
+	}
+	return t.S
+}
+
+// path reads a path. Whether it is one is known at its end, but told at its beginning.
+func (r *reader) path() string {
+	first := r.next()
+	p := strings.Join(row(r, sign("."), r.step), ".")
+	if _, e := path.Steps(p); e != api.OK {
+		panic(fault{first.At, e})
+	}
+	return p
+}
+
+func (r *reader) step() string {
+	if r.next().Kind == api.Number {
+		return strconv.FormatInt(r.take(api.Number).N, 10)
+	}
+	return r.take(api.Word).S
+}
+
+func (r *reader) where() api.Cond {
+	if !r.skip(word(wordWhere)) {
+		return api.Cond{}
+	}
+	return r.cond()
+}
+
+func (r *reader) order() []api.Order {
+	if !r.skip(word(wordOrder)) {
+		return nil
+	}
+	r.need(word(wordBy))
+	return row(r, sign(","), r.by)
+}
+
+func (r *reader) by() api.Order { return api.Order{Path: r.path(), Desc: r.skip(word(wordDesc))} }
+
+func (r *reader) limit() int {
+	if !r.skip(word(wordLimit)) {
+		return 0
+	}
+	return int(r.take(api.Number).N)
+}
+
+func (r *reader) show() []string {
+	if !r.skip(word(wordShow)) {
+		return nil
+	}
+	return row(r, sign(","), r.path)
+}
+
+func (r *reader) change() api.Change {
+	c := api.Change{}
+	c.Do = r.pick(api.Word, doSet, doUnset, doPush, doAdd)
+	c.Path = r.path()
+	switch c.Do {
+	case doSet:
+		r.need(sign("="))
+		c.V = r.value()
+	case doPush:
+		c.V = r.value()
+	case doAdd:
+		c.V = api.Val{Kind: api.Int, N: r.take(api.Number).N}
+	}
+	return c
+}
