@@ -1,14 +1,17 @@
 package parse
 
-import "tidemark/api"
+import (
+	"tidemark/api"
+	"tidemark/words"
+)
 
 // maxWithin is how many `(` and `not` one of these may stand within.
 const maxWithin = 16
 
 // cond reads a condition.
-func (r *reader) cond() api.Cond { return r.joined(opOr, r.and) }
+func (r *reader) cond() api.Cond { return r.joined(words.Or, r.and) }
 
-func (r *reader) and() api.Cond { return r.joined(opAnd, r.not) }
+func (r *reader) and() api.Cond { return r.joined(words.And, r.not) }
 
 // joined reads conditions with that word between; one that stands by itself is joined to nothing.
 func (r *reader) joined(op string, part func() api.Cond) api.Cond {
@@ -21,8 +24,8 @@ func (r *reader) joined(op string, part func() api.Cond) api.Cond {
 
 func (r *reader) not() api.Cond {
 	switch {
-	case r.sees(word(opNot)):
-		return api.Cond{Op: opNot, L: []api.Cond{r.inside(r.not)}}
+	case r.sees(word(words.Not)):
+		return api.Cond{Op: words.Not, L: []api.Cond{r.inside(r.not)}}
 	case r.sees(sign("(")):
 		c := r.inside(r.cond)
 		r.need(sign(")"))
@@ -47,11 +50,11 @@ func (r *reader) inside(part func() api.Cond) api.Cond {
 func (r *reader) test() api.Cond {
 	c := api.Cond{Path: r.path()}
 	switch {
-	case r.skip(word(opExists)):
-		c.Op = opExists
+	case r.skip(word(words.Exists)):
+		c.Op = words.Exists
 		return c
-	case r.skip(word(opIn)):
-		c.Op = opIn
+	case r.skip(word(words.In)):
+		c.Op = words.In
 	default:
 		c.Op = r.pick(api.Sign, "=", "!=", "<", "<=", ">", ">=")
 	}

@@ -80,8 +80,8 @@ func TestNoCond(t *testing.T) {
 	}
 	// A statement may go on behind its condition.
 	for _, s := range []string{"limit 2", "order by y", "show y"} {
-		if c, at, e := parse.Cond("x = 1 " + s); e != api.ErrSyntax || at != 6 || showCond(c, false) != showCond(api.Cond{}, false) {
-			t.Errorf("Cond(%q): %s, %d, %d", s, showCond(c, false), at, int(e))
+		if c, at, e := parse.Cond("x = 1 " + s); e != api.ErrSyntax || at != 6 || showCond(c) != showCond(api.Cond{}) {
+			t.Errorf("Cond(%q): %s, %d, %d", s, showCond(c), at, int(e))
 		}
 	}
 }

@@ -36,7 +36,7 @@ func TestBig(t *testing.T) {
 	}
 	for n, want := range map[int]api.Errno{8192: api.ErrSyntax, 8193: api.ErrBig} {
 		place := map[api.Errno]int{api.ErrSyntax: n}[want]
-		if c, at, e := parse.Cond(strings.Repeat(" ", n)); e != want || at != place || showCond(c, false) != showCond(api.Cond{}, false) {
+		if c, at, e := parse.Cond(strings.Repeat(" ", n)); e != want || at != place || showCond(c) != showCond(api.Cond{}) {
 			t.Errorf("Cond of %d blanks: %d, %d", n, at, int(e))
 		}
 	}

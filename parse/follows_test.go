@@ -19,8 +19,8 @@ func TestParseOfPrint(t *testing.T) {
 		s, e := parse.Print(x)
 		y, at, f := parse.Parse(s)
 		again, g := parse.Print(y)
-		if e != api.OK || f != api.OK || at != 0 || g != api.OK || again != s || show(x, false) != show(y, false) {
-			t.Fatalf("%q: %s, %d, want %s", s, show(y, false), int(f), show(x, false))
+		if e != api.OK || f != api.OK || at != 0 || g != api.OK || again != s || show(x) != show(y) {
+			t.Fatalf("%q: %s, %d, want %s", s, show(y), int(f), show(x))
 		}
 	}
 }

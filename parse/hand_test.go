@@ -335,8 +335,8 @@ func byAnotherHand(t *testing.T, s string) bool {
 	if f == api.OK {
 		want = m.cond()
 	}
-	if c, at, e := parse.Cond(s); e != f || at != bt || showCond(c, false) != showCond(want, false) {
-		t.Errorf("Cond(%q): %s, %d, %d, want %s, %d, %d", cut(s), showCond(c, false), at, int(e), showCond(want, false), bt, int(f))
+	if c, at, e := parse.Cond(s); e != f || at != bt || showCond(c) != showCond(want) {
+		t.Errorf("Cond(%q): %s, %d, %d, want %s, %d, %d", cut(s), showCond(c), at, int(e), showCond(want), bt, int(f))
 	}
 	return e == api.OK || f == api.OK
 }

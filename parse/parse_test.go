@@ -258,7 +258,7 @@ func TestByChance(t *testing.T) {
 			case 2:
 				l = append(l[:at], l[min(at+1, len(l)-1):]...)
 			case 3:
-				l[at] = one(r, letters(25), "100", "-1", `"a"`, `"aa"`, `""`, `"`+letters(25)+`"`, "?", "01", strings.Repeat("[", 9))
+				l[at] = one(r, letters(25), "100", "-1", `"a"`, `"aa"`, `""`, `"`+letters(25)+`"`, "?", "01", strings.Repeat("[", 9), `{"a":1,"a":2}`)
 			case 4:
 				l[at] = strings.Repeat(one(r, "( ", "not ", "not ( "), 1+r.Intn(20)) + l[at]
 			}

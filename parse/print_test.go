@@ -276,7 +276,7 @@ func TestPrintEndless(t *testing.T) {
 
 // told tells, by another hand, whether a text tells x.
 func told(x api.Stmt) bool {
-	has := map[string]bool{"Path": x.Path != "", "V": sample.Show(x.V) != sample.Show(api.Val{}), "Where": showCond(x.Where, false) != showCond(api.Cond{}, false), "Order": len(x.Order) > 0, "Limit": x.Limit != 0, "Show": len(x.Show) > 0, "Changes": len(x.Changes) > 0}
+	has := map[string]bool{"Path": x.Path != "", "V": sample.Show(x.V) != sample.Show(api.Val{}), "Where": showCond(x.Where) != showCond(api.Cond{}), "Order": len(x.Order) > 0, "Limit": x.Limit != 0, "Show": len(x.Show) > 0, "Changes": len(x.Changes) > 0}
 	if !slices.Contains(words[:11], x.Verb) || !nameForm.MatchString(x.Coll) {
 		return false
 	}

@@ -7,6 +7,7 @@ import (
 
 	"tidemark/api"
 	"tidemark/path"
+	"tidemark/words"
 )
 
 // reader goes down through the tokens that are left; a fault that it meets it throws.
@@ -71,21 +72,21 @@ func row[T any](r *reader, between api.Token, part func() T) []T {
 // stmt reads a statement.
 func (r *reader) stmt() api.Stmt {
 	x := api.Stmt{}
-	x.Verb = r.pick(api.Word, verbMake, verbDrop, verbIndex, verbUnindex, verbInsert, verbReplace, verbGet, verbFind, verbCount, verbDelete, verbUpdate)
+	x.Verb = r.pick(api.Word, words.Make, words.Drop, words.Index, words.Unindex, words.Insert, words.Replace, words.Get, words.Find, words.Count, words.Delete, words.Update)
 	x.Coll = r.name()
 	switch x.Verb {
-	case verbIndex, verbUnindex:
+	case words.Index, words.Unindex:
 		x.Path = r.path()
-	case verbInsert, verbReplace, verbGet:
+	case words.Insert, words.Replace, words.Get:
 		x.V = r.value()
-	case verbCount, verbDelete:
+	case words.Count, words.Delete:
 		x.Where = r.where()
-	case verbFind:
+	case words.Find:
 		x.Where = r.where()
 		x.Order = r.order()
 		x.Limit = r.limit()
 		x.Show = r.show()
-	case verbUpdate:
+	case words.Update:
 		x.Where = r.where()
 		x.Changes = row(r, sign(","), r.change)
 	}
@@ -119,31 +120,31 @@ func (r *reader) step() string {
 }
 
 func (r *reader) where() api.Cond {
-	if !r.skip(word(wordWhere)) {
+	if !r.skip(word(words.Where)) {
 		return api.Cond{}
 	}
 	return r.cond()
 }
 
 func (r *reader) order() []api.Order {
-	if !r.skip(word(wordOrder)) {
+	if !r.skip(word(words.Order)) {
 		return nil
 	}
-	r.need(word(wordBy))
+	r.need(word(words.By))
 	return row(r, sign(","), r.by)
 }
 
-func (r *reader) by() api.Order { return api.Order{Path: r.path(), Desc: r.skip(word(wordDesc))} }
+func (r *reader) by() api.Order { return api.Order{Path: r.path(), Desc: r.skip(word(words.Desc))} }
 
 func (r *reader) limit() int {
-	if !r.skip(word(wordLimit)) {
+	if !r.skip(word(words.Limit)) {
 		return 0
 	}
 	return int(r.take(api.Number).N)
 }
 
 func (r *reader) show() []string {
-	if !r.skip(word(wordShow)) {
+	if !r.skip(word(words.Show)) {
 		return nil
 	}
 	return row(r, sign(","), r.path)
@@ -151,15 +152,15 @@ func (r *reader) show() []string {
 
 func (r *reader) change() api.Change {
 	c := api.Change{}
-	c.Do = r.pick(api.Word, doSet, doUnset, doPush, doAdd)
+	c.Do = r.pick(api.Word, words.Set, words.Unset, words.Push, words.Add)
 	c.Path = r.path()
 	switch c.Do {
-	case doSet:
+	case words.Set:
 		r.need(sign("="))
 		c.V = r.value()
-	case doPush:
+	case words.Push:
 		c.V = r.value()
-	case doAdd:
+	case words.Add:
 		c.V = api.Val{Kind: api.Int, N: r.take(api.Number).N}
 	}
 	return c

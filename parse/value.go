@@ -6,6 +6,7 @@ import (
 
 	"tidemark/api"
 	"tidemark/value"
+	"tidemark/words"
 )
 
 // value reads a value that stands in no other one. Whether it is good is known at its end, but told at its beginning.
@@ -27,11 +28,11 @@ func (r *reader) part() api.Val {
 		return api.Val{Kind: api.Text, S: r.take(t.Kind).S}
 	}
 	switch {
-	case r.skip(word(wordNull)):
+	case r.skip(word(words.Null)):
 		return api.Val{Kind: api.Null}
-	case r.skip(word(wordFalse)):
+	case r.skip(word(words.False)):
 		return api.Val{Kind: api.Bool}
-	case r.skip(word(wordTrue)):
+	case r.skip(word(words.True)):
 		return api.Val{Kind: api.Bool, N: 1}
 	case r.skip(sign("[")):
 		return api.Val{Kind: api.List, L: parts(r, r.part, "]")}

@@ -4,6 +4,7 @@ import (
 	"tidemark/api"
 	"tidemark/naming"
 	"tidemark/path"
+	"tidemark/words"
 )
 
 // writer puts tokens one behind the other.
@@ -61,7 +62,7 @@ func (w *writer) where(c api.Cond) {
 	if c.Op == "" {
 		return
 	}
-	w.put(word(wordWhere))
+	w.put(word(words.Where))
 	w.cond(c)
 }
 
@@ -69,20 +70,20 @@ func (w *writer) order(l []api.Order) {
 	if len(l) == 0 {
 		return
 	}
-	w.put(word(wordOrder), word(wordBy))
+	w.put(word(words.Order), word(words.By))
 	list(w, l, w.by)
 }
 
 func (w *writer) by(o api.Order) {
 	w.path(o.Path)
 	if o.Desc {
-		w.put(word(wordDesc))
+		w.put(word(words.Desc))
 	}
 }
 
 func (w *writer) limit(n int) {
 	if n != 0 {
-		w.put(word(wordLimit), number(int64(n)))
+		w.put(word(words.Limit), number(int64(n)))
 	}
 }
 
@@ -90,14 +91,14 @@ func (w *writer) show(l []string) {
 	if len(l) == 0 {
 		return
 	}
-	w.put(word(wordShow))
+	w.put(word(words.Show))
 	list(w, l, w.path)
 }
 
 func (w *writer) change(c api.Change) {
 	w.put(word(c.Do))
 	w.path(c.Path)
-	if c.Do == doSet {
+	if c.Do == words.Set {
 		w.put(sign("="))
 	}
 	w.value(c.V)
@@ -105,17 +106,17 @@ func (w *writer) change(c api.Change) {
 
 func (w *writer) cond(c api.Cond) {
 	switch c.Op {
-	case opOr, opAnd:
+	case words.Or, words.And:
 		for i, x := range c.L {
 			if i > 0 {
 				w.put(word(c.Op))
 			}
 			w.part(c.Op, x)
 		}
-	case opNot:
-		w.put(word(opNot))
+	case words.Not:
+		w.put(word(words.Not))
 		for _, x := range c.L {
-			w.part(opNot, x)
+			w.part(words.Not, x)
 		}
 	default:
 		w.test(c)
@@ -124,8 +125,8 @@ func (w *writer) cond(c api.Cond) {
 
 // part writes a part of a condition of that Op, in parentheses where it would be read as something else.
 func (w *writer) part(op string, c api.Cond) {
-	joined := c.Op == opOr || c.Op == opAnd
-	if !joined || op == opOr && c.Op == opAnd {
+	joined := c.Op == words.Or || c.Op == words.And
+	if !joined || op == words.Or && c.Op == words.And {
 		w.cond(c)
 		return
 	}
@@ -136,7 +137,7 @@ func (w *writer) part(op string, c api.Cond) {
 
 func (w *writer) test(c api.Cond) {
 	w.path(c.Path)
-	if c.Op == opExists || c.Op == opIn {
+	if c.Op == words.Exists || c.Op == words.In {
 		w.put(word(c.Op))
 	} else {
 		w.put(sign(c.Op))
@@ -148,7 +149,7 @@ func (w *writer) test(c api.Cond) {
 func (w *writer) value(v api.Val) {
 	switch v.Kind {
 	case api.Null:
-		w.put(word(wordNull))
+		w.put(word(words.Null))
 	case api.Bool:
 		w.put(word(truth(v.N)))
 	case api.Int:
@@ -168,9 +169,9 @@ func (w *writer) value(v api.Val) {
 
 func truth(n int64) string {
 	if n == 0 {
-		return wordFalse
+		return words.False
 	}
-	return wordTrue
+	return words.True
 }
 
 func (w *writer) field(f api.Field) {

@@ -8,12 +8,14 @@ type Chance interface {
 	Uint64() uint64
 }
 
-// Maker makes values by chance.
+// Maker makes values and statements by chance.
 type Maker struct {
 	Chance Chance
 	Texts  []string              // what Texts are chosen from
 	Names  []string              // what names are chosen from; rising
 	Spoil  func(api.Val) api.Val // what is done to each value once it is made; nil: nothing
+	Firsts []string              // what paths begin with
+	Steps  []string              // what their other steps are chosen from
 }
 
 // Value is a value of at most that depth.

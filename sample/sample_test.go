@@ -1,6 +1,7 @@
 package sample_test
 
 import (
+	"maps"
 	"math"
 	"math/rand"
 	"slices"
@@ -61,6 +62,89 @@ func TestApart(t *testing.T) {
 	}
 	if sample.Apart(nil, b, b) || sample.Apart(nil, b[:0], b[2:]) {
 		t.Error("bytes that share memory are told to lie apart")
+	}
+}
+
+// stmts are statements of which each differs from the others in one part at least.
+func stmts() []api.Stmt {
+	x := sample.Exists("x")
+	l := []api.Stmt{{}, {Verb: "a"}, {Coll: "a"}, {Path: "a"}, {V: sample.Null()}, {Limit: 1}, {Limit: -1}, {Order: []api.Order{{}}}, {Order: []api.Order{{Path: "a"}}}, {Order: []api.Order{{Desc: true}}}, {Show: []string{""}}, {Show: []string{"", ""}}, {Show: []string{"a"}}}
+	for _, c := range []api.Cond{x, sample.Test("x", "=", sample.Null()), sample.Or(x), sample.Or(x, x), sample.And(x, x), sample.Not(x), sample.Or(sample.Or(x), x), sample.Or(sample.Or(x, x)), sample.Within(3, x, sample.Not)} {
+		l = append(l, api.Stmt{Where: c})
+	}
+	for _, c := range []api.Change{{}, sample.Change("a", "", api.Val{}), sample.Change("", "a", api.Val{}), sample.Change("", "", sample.Nulls(2))} {
+		l = append(l, api.Stmt{Changes: []api.Change{c}}, api.Stmt{Changes: []api.Change{c, {Do: "b"}}})
+	}
+	return l
+}
+
+// ShowStmt and ShowStmtRoom tell statements apart, ShowCond their conditions; of nil and an empty list ShowStmt tells the same.
+func TestShowStmt(t *testing.T) {
+	l := stmts()
+	for i, a := range l {
+		for k, b := range l {
+			if (sample.ShowStmt(a) == sample.ShowStmt(b)) != (i == k) || (sample.ShowStmtRoom(a) == sample.ShowStmtRoom(b)) != (i == k) {
+				t.Errorf("%s and %s", sample.ShowStmt(a), sample.ShowStmt(b))
+			}
+			if a.Where.Op+b.Where.Op != "" && (sample.ShowCond(a.Where) == sample.ShowCond(b.Where)) != (i == k) {
+				t.Errorf("%s and %s", sample.ShowCond(a.Where), sample.ShowCond(b.Where))
+			}
+		}
+		r := sample.StmtWithRoom(a)
+		if sample.ShowStmt(r) != sample.ShowStmt(a) || sample.ShowStmtRoom(r) == sample.ShowStmtRoom(a) {
+			t.Errorf("%s with room: %s", sample.ShowStmt(a), sample.ShowStmtRoom(r))
+		}
+	}
+	if a, b := (api.Stmt{Where: api.Cond{L: []api.Cond{}}, Order: []api.Order{}, Show: []string{}, Changes: []api.Change{}}), (api.Stmt{}); sample.ShowStmt(a) != sample.ShowStmt(b) {
+		t.Errorf("%s, %s", sample.ShowStmt(a), sample.ShowStmt(b))
+	}
+}
+
+// StmtsApart knows statements that share memory in any of their lists from those that do not.
+func TestStmtsApart(t *testing.T) {
+	room := func() []api.Stmt {
+		l := stmts()
+		for i, x := range l {
+			l[i] = sample.StmtWithRoom(x)
+		}
+		return l
+	}
+	if !sample.StmtsApart(room()...) || !sample.StmtsApart(append(room(), room()...)...) {
+		t.Error("what lies apart is told to share memory")
+	}
+	x := sample.StmtWithRoom(api.Stmt{Where: sample.Or(sample.Exists("x"), sample.Test("x", "=", sample.Nulls(1))), Changes: []api.Change{sample.Change("a", "b", sample.Nulls(1))}})
+	for i, y := range []api.Stmt{{V: x.V}, {Where: x.Where}, {Where: api.Cond{L: x.Where.L[:0]}}, {V: x.Where.L[1].V}, {Where: x.Where.L[0]}, {Order: x.Order}, {Show: x.Show}, {Changes: x.Changes[:0]}, {V: x.Changes[0].V}} {
+		if sample.StmtsApart(x, y) {
+			t.Errorf("%d: what shares memory is told to lie apart", i)
+		}
+	}
+}
+
+// Statements by chance are of each verb, each with just such parts as it has, and not all the same.
+func TestStmtByChance(t *testing.T) {
+	m := sample.Maker{Chance: rand.New(rand.NewSource(3)), Texts: []string{"x"}, Names: []string{"a", "b"}, Firsts: []string{"p", "q"}, Steps: []string{"r", "0"}}
+	seen, parts, all := map[string]int{}, map[string]int{}, map[string]int{}
+	for range 3000 {
+		x := m.Stmt("c")
+		seen[x.Verb]++
+		all[sample.ShowStmt(x)]++
+		has := ""
+		for _, part := range []struct {
+			name  string
+			there bool
+		}{{"path", x.Path != ""}, {"value", x.V.Kind != 0}, {"where", x.Where.Op != ""}, {"order", len(x.Order) > 0}, {"limit", x.Limit != 0}, {"show", len(x.Show) > 0}, {"change", len(x.Changes) > 0}} {
+			if part.there {
+				has += " " + part.name
+			}
+		}
+		parts[x.Verb+has]++
+	}
+	if !slices.Equal(slices.Sorted(maps.Keys(seen)), slices.Sorted(slices.Values(sample.Verbs()))) || len(all) < 1000 {
+		t.Errorf("verbs %v, %d statements", seen, len(all))
+	}
+	// make, drop; index, unindex; insert, replace, get; count, delete, update with a condition and without; find with each of four parts and without.
+	if len(parts) != 2+2+3+6+16 {
+		t.Errorf("parts: %v", parts)
 	}
 }
 

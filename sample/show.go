@@ -24,6 +24,27 @@ func ShowRoom(v api.Val) string {
 	return s.b.String()
 }
 
+// ShowStmt tells all of a statement; nil and an empty list alike.
+func ShowStmt(x api.Stmt) string {
+	s := shower{}
+	s.stmt(x)
+	return s.b.String()
+}
+
+// ShowStmtRoom tells all of a statement, the spare room of its lists too.
+func ShowStmtRoom(x api.Stmt) string {
+	s := shower{room: true}
+	s.stmt(x)
+	return s.b.String()
+}
+
+// ShowCond tells all of a condition; nil and an empty list alike.
+func ShowCond(c api.Cond) string {
+	s := shower{}
+	s.cond(c)
+	return s.b.String()
+}
+
 // Short is the beginning of what Show tells.
 func Short(v api.Val) string { return Cut(Show(v)) }
 
@@ -35,7 +56,7 @@ func Cut(s string) string {
 	return s
 }
 
-// shower writes values, with the spare room of their lists or without it.
+// shower writes values and statements, with the spare room of their lists or without it.
 type shower struct {
 	b    strings.Builder
 	room bool
@@ -66,6 +87,41 @@ func each[T any](s *shower, l []T, item func(T)) {
 func (s *shower) field(f api.Field) {
 	s.put(strconv.Quote(f.Name), ":")
 	s.value(f.V)
+}
+
+func (s *shower) stmt(x api.Stmt) {
+	s.quoted(x.Verb, x.Coll, x.Path)
+	s.value(x.V)
+	s.put(" where ")
+	s.cond(x.Where)
+	s.put(" order")
+	each(s, x.Order, func(o api.Order) {
+		s.quoted(o.Path)
+		s.put(strconv.FormatBool(o.Desc))
+	})
+	s.put(" limit ", strconv.Itoa(x.Limit), " show")
+	each(s, x.Show, func(p string) { s.quoted(p) })
+	s.put(" change")
+	each(s, x.Changes, func(c api.Change) {
+		s.quoted(c.Do, c.Path)
+		s.value(c.V)
+	})
+}
+
+func (s *shower) cond(c api.Cond) {
+	s.put("(")
+	s.quoted(c.Op, c.Path)
+	s.value(c.V)
+	s.put(":")
+	each(s, c.L, s.cond)
+	s.put(")")
+}
+
+// quoted writes texts, each with a blank behind it.
+func (s *shower) quoted(l ...string) {
+	for _, x := range l {
+		s.put(strconv.Quote(x), " ")
+	}
 }
 
 func (s *shower) put(parts ...string) {
