@@ -15,7 +15,7 @@ func (r *reader) and() api.Cond { return r.joined(words.And, r.not) }
 
 // joined reads conditions with that word between; one that stands by itself is joined to nothing.
 func (r *reader) joined(op string, part func() api.Cond) api.Cond {
-	l := row(r, word(op), part)
+	l := row(r, words.Word(op), part)
 	if len(l) == 1 {
 		return l[0]
 	}
@@ -24,11 +24,11 @@ func (r *reader) joined(op string, part func() api.Cond) api.Cond {
 
 func (r *reader) not() api.Cond {
 	switch {
-	case r.sees(word(words.Not)):
+	case r.sees(words.Word(words.Not)):
 		return api.Cond{Op: words.Not, L: []api.Cond{r.inside(r.not)}}
-	case r.sees(sign("(")):
+	case r.sees(words.Sign("(")):
 		c := r.inside(r.cond)
-		r.need(sign(")"))
+		r.need(words.Sign(")"))
 		return c
 	}
 	return r.test()
@@ -50,10 +50,10 @@ func (r *reader) inside(part func() api.Cond) api.Cond {
 func (r *reader) test() api.Cond {
 	c := api.Cond{Path: r.path()}
 	switch {
-	case r.skip(word(words.Exists)):
+	case r.skip(words.Word(words.Exists)):
 		c.Op = words.Exists
 		return c
-	case r.skip(word(words.In)):
+	case r.skip(words.Word(words.In)):
 		c.Op = words.In
 	default:
 		c.Op = r.pick(api.Sign, "=", "!=", "<", "<=", ">", ">=")

@@ -88,7 +88,7 @@ func (r *reader) stmt() api.Stmt {
 		x.Show = r.show()
 	case words.Update:
 		x.Where = r.where()
-		x.Changes = row(r, sign(","), r.change)
+		x.Changes = row(r, words.Sign(","), r.change)
 	}
 	return x
 }
@@ -105,7 +105,7 @@ func (r *reader) name() string {
 // path reads a path. Whether it is one is known at its end, but told at its beginning.
 func (r *reader) path() string {
 	first := r.next()
-	p := strings.Join(row(r, sign("."), r.step), ".")
+	p := strings.Join(row(r, words.Sign("."), r.step), ".")
 	if _, e := path.Steps(p); e != api.OK {
 		panic(fault{first.At, e})
 	}
@@ -120,34 +120,36 @@ func (r *reader) step() string {
 }
 
 func (r *reader) where() api.Cond {
-	if !r.skip(word(words.Where)) {
+	if !r.skip(words.Word(words.Where)) {
 		return api.Cond{}
 	}
 	return r.cond()
 }
 
 func (r *reader) order() []api.Order {
-	if !r.skip(word(words.Order)) {
+	if !r.skip(words.Word(words.Order)) {
 		return nil
 	}
-	r.need(word(words.By))
-	return row(r, sign(","), r.by)
+	r.need(words.Word(words.By))
+	return row(r, words.Sign(","), r.by)
 }
 
-func (r *reader) by() api.Order { return api.Order{Path: r.path(), Desc: r.skip(word(words.Desc))} }
+func (r *reader) by() api.Order {
+	return api.Order{Path: r.path(), Desc: r.skip(words.Word(words.Desc))}
+}
 
 func (r *reader) limit() int {
-	if !r.skip(word(words.Limit)) {
+	if !r.skip(words.Word(words.Limit)) {
 		return 0
 	}
 	return int(r.take(api.Number).N)
 }
 
 func (r *reader) show() []string {
-	if !r.skip(word(words.Show)) {
+	if !r.skip(words.Word(words.Show)) {
 		return nil
 	}
-	return row(r, sign(","), r.path)
+	return row(r, words.Sign(","), r.path)
 }
 
 func (r *reader) change() api.Change {
@@ -156,7 +158,7 @@ func (r *reader) change() api.Change {
 	c.Path = r.path()
 	switch c.Do {
 	case words.Set:
-		r.need(sign("="))
+		r.need(words.Sign("="))
 		c.V = r.value()
 	case words.Push:
 		c.V = r.value()

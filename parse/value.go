@@ -28,15 +28,15 @@ func (r *reader) part() api.Val {
 		return api.Val{Kind: api.Text, S: r.take(t.Kind).S}
 	}
 	switch {
-	case r.skip(word(words.Null)):
+	case r.skip(words.Word(words.Null)):
 		return api.Val{Kind: api.Null}
-	case r.skip(word(words.False)):
+	case r.skip(words.Word(words.False)):
 		return api.Val{Kind: api.Bool}
-	case r.skip(word(words.True)):
+	case r.skip(words.Word(words.True)):
 		return api.Val{Kind: api.Bool, N: 1}
-	case r.skip(sign("[")):
+	case r.skip(words.Sign("[")):
 		return api.Val{Kind: api.List, L: parts(r, r.part, "]")}
-	case r.skip(sign("{")):
+	case r.skip(words.Sign("{")):
 		return api.Val{Kind: api.Doc, F: r.fields()}
 	}
 	panic(wrong(r.next()))
@@ -44,11 +44,11 @@ func (r *reader) part() api.Val {
 
 // parts reads what stands in a List or a Doc, and its end.
 func parts[T any](r *reader, part func() T, end string) []T {
-	if r.skip(sign(end)) {
+	if r.skip(words.Sign(end)) {
 		return nil
 	}
-	l := row(r, sign(","), part)
-	r.need(sign(end))
+	l := row(r, words.Sign(","), part)
+	r.need(words.Sign(end))
 	return l
 }
 
@@ -58,7 +58,7 @@ func (r *reader) fields() []api.Field {
 	l := parts(r, func() api.Field {
 		t := r.take(api.Quoted)
 		// Only what stands before `:` is a name, and may be one that was there.
-		r.need(sign(":"))
+		r.need(words.Sign(":"))
 		if slices.Contains(names, t.S) {
 			panic(fault{t.At, api.ErrDup})
 		}

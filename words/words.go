@@ -1,4 +1,4 @@
-// Package words: the words of statements that stand for themselves, for the layers that read statements or go by them.
+// Package words: the words of statements that stand for themselves, and such tokens, for the layers that read statements or go by them.
 package words
 
 // What a statement begins with.

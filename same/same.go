@@ -1,4 +1,5 @@
-package parse
+// Package same: whether a statement or a condition is one that was read of a text, for the layers that ask whether a text tells it.
+package same
 
 import (
 	"slices"
@@ -7,15 +8,16 @@ import (
 	"tidemark/value"
 )
 
-// sameStmt tells whether x is the statement y that was read; so the others of its parts.
-func sameStmt(x, y api.Stmt) bool {
+// Stmt tells whether x is the statement y that was read.
+func Stmt(x, y api.Stmt) bool {
 	return x.Verb == y.Verb && x.Coll == y.Coll && x.Path == y.Path && sameValue(x.V, y.V) &&
-		sameCond(x.Where, y.Where) && slices.Equal(x.Order, y.Order) && x.Limit == y.Limit && slices.Equal(x.Show, y.Show) &&
+		Cond(x.Where, y.Where) && slices.Equal(x.Order, y.Order) && x.Limit == y.Limit && slices.Equal(x.Show, y.Show) &&
 		slices.EqualFunc(x.Changes, y.Changes, sameChange)
 }
 
-func sameCond(x, y api.Cond) bool {
-	return x.Op == y.Op && x.Path == y.Path && sameValue(x.V, y.V) && slices.EqualFunc(x.L, y.L, sameCond)
+// Cond tells whether x is the condition y that was read, or none, as y is.
+func Cond(x, y api.Cond) bool {
+	return x.Op == y.Op && x.Path == y.Path && sameValue(x.V, y.V) && slices.EqualFunc(x.L, y.L, Cond)
 }
 
 func sameChange(x, y api.Change) bool {

@@ -1,4 +1,4 @@
-package parse
+package wording
 
 import (
 	"tidemark/api"
@@ -10,34 +10,35 @@ import (
 // writer puts tokens one behind the other.
 type writer struct{ l []api.Token }
 
-// tokens are those of the statement x: of each part that it has, whether its verb may have it or not.
-func tokens(x api.Stmt) []api.Token {
-	w := writer{}
-	w.put(word(x.Verb), word(x.Coll))
-	w.path(x.Path)
-	w.value(x.V)
-	w.where(x.Where)
-	w.order(x.Order)
-	w.limit(x.Limit)
-	w.show(x.Show)
-	list(&w, x.Changes, w.change)
-	return w.l
-}
+// tooMany is thrown where there are more tokens than any text has.
+type tooMany struct{}
 
 // put writes tokens.
 func (w *writer) put(l ...api.Token) {
 	w.l = append(w.l, l...)
 	// Each has a byte at least, so that no text of more of them will do. A statement that is endless, since a list of it holds itself, comes to an end here.
 	if len(w.l) > api.MaxText {
-		panic(fault{e: api.ErrBig})
+		panic(tooMany{})
 	}
+}
+
+// stmt writes each part that x has, whether its verb may have it or not.
+func (w *writer) stmt(x api.Stmt) {
+	w.put(words.Word(x.Verb), words.Word(x.Coll))
+	w.path(x.Path)
+	w.value(x.V)
+	w.where(x.Where)
+	w.order(x.Order)
+	w.limit(x.Limit)
+	w.show(x.Show)
+	list(w, x.Changes, w.change)
 }
 
 // list writes the items of l with `,` between.
 func list[T any](w *writer, l []T, item func(T)) {
 	for i, x := range l {
 		if i > 0 {
-			w.put(sign(","))
+			w.put(words.Sign(","))
 		}
 		item(x)
 	}
@@ -48,12 +49,12 @@ func (w *writer) path(p string) {
 	steps, _ := path.Steps(p)
 	for i, s := range steps {
 		if i > 0 {
-			w.put(sign("."))
+			w.put(words.Sign("."))
 		}
 		if n, ok := naming.Place(s); ok {
 			w.put(number(int64(n)))
 		} else {
-			w.put(word(s))
+			w.put(words.Word(s))
 		}
 	}
 }
@@ -62,7 +63,7 @@ func (w *writer) where(c api.Cond) {
 	if c.Op == "" {
 		return
 	}
-	w.put(word(words.Where))
+	w.put(words.Word(words.Where))
 	w.cond(c)
 }
 
@@ -70,20 +71,20 @@ func (w *writer) order(l []api.Order) {
 	if len(l) == 0 {
 		return
 	}
-	w.put(word(words.Order), word(words.By))
+	w.put(words.Word(words.Order), words.Word(words.By))
 	list(w, l, w.by)
 }
 
 func (w *writer) by(o api.Order) {
 	w.path(o.Path)
 	if o.Desc {
-		w.put(word(words.Desc))
+		w.put(words.Word(words.Desc))
 	}
 }
 
 func (w *writer) limit(n int) {
 	if n != 0 {
-		w.put(word(words.Limit), number(int64(n)))
+		w.put(words.Word(words.Limit), number(int64(n)))
 	}
 }
 
@@ -91,15 +92,15 @@ func (w *writer) show(l []string) {
 	if len(l) == 0 {
 		return
 	}
-	w.put(word(words.Show))
+	w.put(words.Word(words.Show))
 	list(w, l, w.path)
 }
 
 func (w *writer) change(c api.Change) {
-	w.put(word(c.Do))
+	w.put(words.Word(c.Do))
 	w.path(c.Path)
 	if c.Do == words.Set {
-		w.put(sign("="))
+		w.put(words.Sign("="))
 	}
 	w.value(c.V)
 }
@@ -109,12 +110,12 @@ func (w *writer) cond(c api.Cond) {
 	case words.Or, words.And:
 		for i, x := range c.L {
 			if i > 0 {
-				w.put(word(c.Op))
+				w.put(words.Word(c.Op))
 			}
 			w.part(c.Op, x)
 		}
 	case words.Not:
-		w.put(word(words.Not))
+		w.put(words.Word(words.Not))
 		for _, x := range c.L {
 			w.part(words.Not, x)
 		}
@@ -130,17 +131,17 @@ func (w *writer) part(op string, c api.Cond) {
 		w.cond(c)
 		return
 	}
-	w.put(sign("("))
+	w.put(words.Sign("("))
 	w.cond(c)
-	w.put(sign(")"))
+	w.put(words.Sign(")"))
 }
 
 func (w *writer) test(c api.Cond) {
 	w.path(c.Path)
 	if c.Op == words.Exists || c.Op == words.In {
-		w.put(word(c.Op))
+		w.put(words.Word(c.Op))
 	} else {
-		w.put(sign(c.Op))
+		w.put(words.Sign(c.Op))
 	}
 	w.value(c.V)
 }
@@ -149,23 +150,27 @@ func (w *writer) test(c api.Cond) {
 func (w *writer) value(v api.Val) {
 	switch v.Kind {
 	case api.Null:
-		w.put(word(words.Null))
+		w.put(words.Word(words.Null))
 	case api.Bool:
-		w.put(word(truth(v.N)))
+		w.put(words.Word(truth(v.N)))
 	case api.Int:
 		w.put(number(v.N))
 	case api.Text:
 		w.put(quoted(v.S))
 	case api.List:
-		w.put(sign("["))
+		w.put(words.Sign("["))
 		list(w, v.L, w.value)
-		w.put(sign("]"))
+		w.put(words.Sign("]"))
 	case api.Doc:
-		w.put(sign("{"))
+		w.put(words.Sign("{"))
 		list(w, v.F, w.field)
-		w.put(sign("}"))
+		w.put(words.Sign("}"))
 	}
 }
+
+func number(n int64) api.Token { return api.Token{Kind: api.Number, N: n} }
+
+func quoted(s string) api.Token { return api.Token{Kind: api.Quoted, S: s} }
 
 func truth(n int64) string {
 	if n == 0 {
@@ -175,6 +180,6 @@ func truth(n int64) string {
 }
 
 func (w *writer) field(f api.Field) {
-	w.put(quoted(f.Name), sign(":"))
+	w.put(quoted(f.Name), words.Sign(":"))
 	w.value(f.V)
 }
