@@ -106,7 +106,7 @@ func TestFindByNoText(t *testing.T) {
 	for _, coll := range []string{"", "1", "a b", "a.b", "\u00e4", "\xff", letters(25), "a limit 3"} {
 		spoilers = append(spoilers, func(x *api.Stmt) { x.Coll = coll })
 	}
-	for _, c := range noConds() {
+	for _, c := range sample.BadConds() {
 		spoilers = append(spoilers, func(x *api.Stmt) { x.Where = c }, func(x *api.Stmt) { x.Where = not(and(exists("x"), c)) })
 	}
 	for _, l := range worse {

@@ -22,8 +22,13 @@ var (
 	list, doc, field            = sample.List, sample.Doc, sample.Field
 	exists, test, or, and, not  = sample.Exists, sample.Test, sample.Or, sample.And, sample.Not
 	letters, cut, short         = sample.Letters, sample.Cut, sample.Short
-	bad                         = sample.Bad()
+	lead, within                = sample.Lead, sample.Around
+	bad, badPaths               = sample.Bad(), sample.BadPaths()
 )
+
+// maker and random make values, statements and documents by chance.
+func maker(r *rand.Rand) sample.Maker { return sample.Few(r) }
+func random(r *rand.Rand) api.Val     { return sample.Document(r) }
 
 // example is the chapter's document.
 const example = `{"id":1,"t":["a"],"x":5}`
@@ -125,28 +130,6 @@ func is(t *testing.T, call, got, want string) {
 // showCond is a condition with all its parts.
 func showCond(c api.Cond) string { return cut(sample.ShowCond(c)) }
 
-// lead is path.Get by another hand, of good values and of paths; no path leads nowhere.
-func lead(v api.Val, p string) (api.Val, bool) {
-	if p == "" {
-		return api.Val{}, false
-	}
-	for _, step := range strings.Split(p, ".") {
-		at := -1
-		if n, e := strconv.Atoi(step); e == nil && v.Kind == api.List && n < len(v.L) {
-			v = v.L[n]
-			continue
-		}
-		if v.Kind == api.Doc && (step[0] < '0' || step[0] > '9') {
-			at = slices.IndexFunc(v.F, func(f api.Field) bool { return f.Name == step })
-		}
-		if at < 0 {
-			return api.Val{}, false
-		}
-		v = v.F[at].V
-	}
-	return v, true
-}
-
 // order is the order of good values by another hand: by that of their keys.
 func order(a, b api.Val) int {
 	k, _ := key.Of(a)
@@ -193,38 +176,6 @@ func holdsOtherwise(c api.Cond, v api.Val) bool {
 // one is one of l.
 func one[T any](r *rand.Rand, l ...T) T { return l[r.Intn(len(l))] }
 
-// maker makes values and statements by chance, of few names and small numbers, so that paths often lead somewhere and values are often the same.
-func maker(r *rand.Rand) sample.Maker {
-	return sample.Maker{
-		Chance: r,
-		Texts:  []string{"", "a", "ab"},
-		Names:  []string{"0", "a", "b", "id", "\u00e4"},
-		Firsts: []string{"a", "b", "id", "z", "a", "b"},
-		Steps:  []string{"a", "b", "0", "1", "id"},
-		Spoil: func(v api.Val) api.Val {
-			if v.Kind == api.Int {
-				v.N %= 3
-			}
-			return v
-		},
-	}
-}
-
-// random is a document by chance, with one of few ids.
-func random(r *rand.Rand) api.Val {
-	v := doc()
-	for _, name := range []string{"a", "b"} {
-		if r.Intn(4) > 0 {
-			v.F = append(v.F, field(name, maker(r).Value(r.Intn(3))))
-		}
-	}
-	v.F = append(v.F, field("id", one(r, number(int64(r.Intn(5))), text(letters(r.Intn(3))))))
-	if r.Intn(3) == 0 {
-		v.F = append(v.F, field("\u00e4", null))
-	}
-	return v
-}
-
 // randoms are fewer than that many documents.
 func randoms(r *rand.Rand, most int) []api.Val {
 	var l []api.Val
@@ -235,42 +186,9 @@ func randoms(r *rand.Rand, most int) []api.Val {
 }
 
 // randomCond is a condition by chance that check lets pass; some of its tests are by what v has there, or by what is near that.
-func randomCond(r *rand.Rand, v api.Val) api.Cond { return aimed(r, maker(r).Cond(r.Intn(4)), v) }
-
-// aimed is c with some tests aimed at v, and a List in each `in`.
-func aimed(r *rand.Rand, c api.Cond, v api.Val) api.Cond {
-	c.L = slices.Clone(c.L)
-	for i, part := range c.L {
-		c.L[i] = aimed(r, part, v)
-	}
-	if x, there := lead(v, c.Path); there && c.Op != "exists" && r.Intn(2) == 0 {
-		c.V = near(r, x)
-	}
-	if c.Op == "in" && c.V.Kind != api.List {
-		c.V = list(null, c.V, number(0), text("a"), list())
-	}
-	return c
+func randomCond(r *rand.Rand, v api.Val) api.Cond {
+	return sample.Aimed(r, maker(r).Cond(r.Intn(4)), v)
 }
-
-// near is v, or one of its Kind that is beside it.
-func near(r *rand.Rand, v api.Val) api.Val {
-	switch v.Kind {
-	case api.Bool:
-		v.N = int64(r.Intn(2))
-	case api.Int:
-		v.N += int64(r.Intn(3) - 1)
-	case api.Text:
-		v.S = one(r, v.S, v.S+"a", "")
-	case api.List:
-		v.L = v.L[:max(0, len(v.L)-r.Intn(2))]
-	case api.Doc:
-		v.F = v.F[:max(0, len(v.F)-r.Intn(2))]
-	}
-	return v
-}
-
-// badPaths are texts that are no paths.
-var badPaths = []string{"", ".", "a.", ".a", "a..b", "a b", " a", "a ", "01", "a.01", "-1", "100", "\u00e4", "\xff", "a\x00", letters(25), "a." + letters(25), "a.b.c.d.e.f.g.h.i", letters(300)}
 
 // counted sees to it that each of these was told often enough that a test by chance tries them all.
 func counted(t *testing.T, told map[string]int, least int, these ...string) {

@@ -159,7 +159,7 @@ func TestNone(t *testing.T) {
 // P17.1: Good's error of doc is told first, whatever the condition is.
 func TestHoldsOfBad(t *testing.T) {
 	for _, f := range bad {
-		for _, c := range append([]api.Cond{{}, exists("x"), not(exists("x")), test("x", "in", number(1))}, noConds()...) {
+		for _, c := range append([]api.Cond{{}, exists("x"), not(exists("x")), test("x", "in", number(1))}, sample.BadConds()...) {
 			refuses(t, c, f.V, f.E)
 		}
 		refuses(t, exists("x"), doc(field("x", f.V)), f.E)
@@ -169,35 +169,9 @@ func TestHoldsOfBad(t *testing.T) {
 	holds(t, exists("0.0.0.0.0.0.0"), sample.DeepLists(8), true)
 }
 
-// noConds are conditions that no text tells, not even their own.
-func noConds() []api.Cond {
-	x := exists("x")
-	l := []api.Cond{
-		{Path: "x"}, {L: []api.Cond{x}}, {Path: "x", V: number(1)}, {V: null}, {V: api.Val{N: 1}}, or(), and(), or(x), and(x), or(or(x)), {Op: "not"}, {Op: "not", L: []api.Cond{x, x}}, {Op: "not", L: []api.Cond{{}}}, or(x, api.Cond{}), and(api.Cond{}, x), or(x, and(x)), and(or(), x),
-		{Op: "not", Path: "x", L: []api.Cond{x}}, {Op: "or", Path: "x", L: []api.Cond{x, x}}, {Op: "and", V: null, L: []api.Cond{x, x}}, {Op: "or", V: null, L: []api.Cond{x, x}}, {Op: "not", V: null, L: []api.Cond{x}},
-		{Op: "exists", Path: "x", V: null}, {Op: "exists", Path: "x", L: []api.Cond{x}}, {Op: "exists"}, {Op: "=", Path: "x"}, {Op: "in", Path: "x"}, {Op: "=", V: null}, {Op: "in", Path: "x", V: list(), L: []api.Cond{x}}, {Op: "<", Path: "x", V: null, L: []api.Cond{x}},
-		{Op: "==", Path: "x", V: null}, {Op: "!", Path: "x", V: null}, {Op: "foo", Path: "x", V: null}, {Op: "Exists", Path: "x"}, {Op: "(", Path: "x", V: null}, {Op: "= ", Path: "x", V: null}, {Op: "exists or x exists", Path: "x"}, {Op: "OR", L: []api.Cond{x, x}}, {Op: "limit", Path: "x", V: number(1)}, {Op: "\xff", Path: "x", V: null},
-		exists("not"), exists("not.x"), test("not", "=", null),
-		sample.Within(18, x, not), sample.Within(19, x, func(c api.Cond) api.Cond { return or(c, x) }), or(slices.Repeat([]api.Cond{x}, 684)...),
-	}
-	for _, p := range badPaths {
-		l = append(l, exists(p), test(p, "=", null), test(p, "in", list()))
-	}
-	for _, f := range bad {
-		l = append(l, test("x", "=", f.V), test("x", "!=", f.V), test("x", ">=", f.V), test("x", "in", f.V), test("x", "in", list(f.V)))
-	}
-	return l
-}
-
-// within are a condition by itself, and within others, ahead of what alone would tell whether these hold and behind it.
-func within(c api.Cond) []api.Cond {
-	x, y := exists("x"), exists("y")
-	return []api.Cond{c, not(c), or(c, x), or(x, c), and(c, y), and(y, c), or(x, x, c, y), and(y, y, c, x), not(not(and(or(x, c), y))), or(x, and(y, not(or(x, c))))}
-}
-
 // P17.1: ErrForm of what is not what parse.Cond tells of its own text, wherever it stands.
 func TestHoldsByNoCond(t *testing.T) {
-	for _, c := range noConds() {
+	for _, c := range sample.BadConds() {
 		for _, v := range vals(example + `,{},[],null,5,"a"`) {
 			for _, y := range within(c) {
 				refuses(t, y, v, api.ErrForm)

@@ -90,7 +90,7 @@ func randomAsked(r *rand.Rand) asked {
 	case 4:
 		a.changes = append(a.changes, sample.Change(one(r, "set", "unset", "push", "add", "foo"), one(r, p, "a", "a.b", "id"), v))
 	case 5:
-		a.cond = one(r, within(one(r, noConds()...))...)
+		a.cond = one(r, within(one(r, sample.BadConds()...))...)
 	case 6:
 		a.find.Where = api.Cond{Op: "in", Path: p, V: v}
 	case 7:

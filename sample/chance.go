@@ -54,3 +54,36 @@ func (m Maker) fields(depth int) []api.Field {
 	}
 	return l
 }
+
+// Few makes values and statements by chance, of few names and small numbers, so that paths often lead somewhere and values are often the same.
+func Few(r Chance) Maker {
+	return Maker{
+		Chance: r,
+		Texts:  []string{"", "a", "ab"},
+		Names:  []string{"0", "a", "b", "id", "\u00e4"},
+		Firsts: []string{"a", "b", "id", "z", "a", "b"},
+		Steps:  []string{"a", "b", "0", "1", "id"},
+		Spoil: func(v api.Val) api.Val {
+			if v.Kind == api.Int {
+				v.N %= 3
+			}
+			return v
+		},
+	}
+}
+
+// Document is a document by chance, of what Few makes, with one of few ids.
+func Document(r Chance) api.Val {
+	v := Doc()
+	for _, name := range []string{"a", "b"} {
+		if r.Intn(4) > 0 {
+			v.F = append(v.F, Field(name, Few(r).Value(r.Intn(3))))
+		}
+	}
+	ids := []api.Val{Int(int64(r.Intn(5))), Text(Letters(r.Intn(3)))}
+	v.F = append(v.F, Field("id", ids[r.Intn(2)]))
+	if r.Intn(3) == 0 {
+		v.F = append(v.F, Field("\u00e4", Null()))
+	}
+	return v
+}

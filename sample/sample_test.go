@@ -9,6 +9,9 @@ import (
 	"testing"
 
 	"tidemark/api"
+	"tidemark/check"
+	"tidemark/eval"
+	"tidemark/path"
 	"tidemark/sample"
 	"tidemark/value"
 )
@@ -200,5 +203,63 @@ func TestAnyText(t *testing.T) {
 	}
 	if len(lengths) != 10 || lengths[10] != 0 || others < all/10 || others > all/3 {
 		t.Errorf("lengths %v, %d of %d bytes", lengths, others, all)
+	}
+}
+
+// The paths and conditions that are told to be bad are refused, within others too.
+func TestBadPathsAndConds(t *testing.T) {
+	for _, p := range sample.BadPaths() {
+		if _, e := path.Steps(p); e == api.OK {
+			t.Errorf("%q is a path", p)
+		}
+	}
+	for _, c := range sample.BadConds() {
+		for _, x := range sample.Around(c) {
+			if _, e := eval.Holds(x, sample.Null()); e != api.ErrForm {
+				t.Errorf("%s: %d", sample.Cut(sample.ShowCond(x)), int(e))
+			}
+		}
+	}
+	for _, x := range sample.Around(sample.Exists("z")) {
+		if _, e := eval.Holds(x, sample.Null()); e != api.OK {
+			t.Errorf("%s: %d", sample.ShowCond(x), int(e))
+		}
+	}
+}
+
+// Documents by chance have ids; paths lead from them as path says; conditions that are aimed at them are let pass, and hold of some and not of others.
+func TestDocumentsAndAim(t *testing.T) {
+	r := rand.New(rand.NewSource(4))
+	m := sample.Few(r)
+	led, held, all := 0, 0, map[string]int{}
+	for range 3000 {
+		v := sample.Document(r)
+		if _, e := check.Id(v); e != api.OK {
+			t.Errorf("%s: %d", sample.Short(v), int(e))
+		}
+		all[sample.Show(v)]++
+		p := m.Path()
+		x, there := sample.Lead(v, p)
+		if y, ok := path.Get(v, p); ok != there || sample.Show(x) != sample.Show(y) {
+			t.Errorf("%s of %s: %s, %v", p, sample.Short(v), sample.Short(x), there)
+		}
+		if y := sample.Near(r, x); there && (y.Kind != x.Kind || value.Good(y) != api.OK) {
+			t.Errorf("near %s: %s", sample.Short(x), sample.Short(y))
+		}
+		c := m.Cond(3)
+		was := sample.ShowCond(c)
+		holds, e := eval.Holds(sample.Aimed(r, c, v), v)
+		if e != api.OK || sample.ShowCond(c) != was {
+			t.Errorf("%s: %d, now %s", was, int(e), sample.ShowCond(c))
+		}
+		if there {
+			led++
+		}
+		if holds {
+			held++
+		}
+	}
+	if led < 500 || held < 500 || held > 2500 || len(all) < 500 {
+		t.Errorf("%d paths led somewhere, %d conditions held, %d documents", led, held, len(all))
 	}
 }
