@@ -16,9 +16,6 @@ type rule struct {
 	e      api.Errno
 }
 
-// idName is the field that holds a document's id, and the path to it.
-const idName = "id"
-
 // How much there may be.
 const (
 	maxIdBytes = 64
@@ -29,7 +26,7 @@ const (
 
 // idOf tells the id of the document v, good or not; false: it has none.
 func idOf(v api.Val) (api.Val, bool) {
-	id, ok := value.Find(v, idName)
+	id, ok := value.Find(v, naming.Id)
 	if !ok || !isId(id) {
 		return api.Val{}, false
 	}
@@ -57,7 +54,7 @@ func putsNoId(x api.Stmt) bool {
 func getsNoId(x api.Stmt) bool { return x.Verb == words.Get && !isId(x.V) }
 
 func indexesId(x api.Stmt) bool {
-	return (x.Verb == words.Index || x.Verb == words.Unindex) && Touches(x.Path, idName)
+	return (x.Verb == words.Index || x.Verb == words.Unindex) && Touches(x.Path, naming.Id)
 }
 
 func limitsBeyond(x api.Stmt) bool { return x.Limit < 0 || x.Limit > api.MaxDocs }
@@ -86,7 +83,7 @@ func showsTwice(x api.Stmt) bool { return anyTwo(x.Show, Touches) }
 func changesTooMuch(x api.Stmt) bool { return len(x.Changes) > maxChanges }
 
 func changesId(x api.Stmt) bool {
-	return slices.ContainsFunc(x.Changes, func(c api.Change) bool { return Touches(c.Path, idName) })
+	return slices.ContainsFunc(x.Changes, func(c api.Change) bool { return Touches(c.Path, naming.Id) })
 }
 
 func changesTwice(x api.Stmt) bool {

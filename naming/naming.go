@@ -1,7 +1,10 @@
-// Package naming: what one step of a path is, a name or a place, and what names are made of, for the layers that go by steps or read words.
+// Package naming: what one step of a path is, a name or a place, what names are made of, and which name a document's id has, for the layers that go by steps or read words.
 package naming
 
 import "tidemark/api"
+
+// Id is the name of the field that holds a document's id, and the path to it.
+const Id = "id"
 
 // IsName tells whether a step is a name.
 func IsName(step string) bool { return len(step) <= api.MaxName && IsWord(step) }

@@ -1,34 +1,31 @@
-// Package same: whether a statement or a condition is one that was read of a text, for the layers that ask whether a text tells it.
+// Package same: whether two values, two conditions or two statements are the same, nil and an empty list being one.
 package same
 
 import (
 	"slices"
 
 	"tidemark/api"
-	"tidemark/value"
 )
 
-// Stmt tells whether x is the statement y that was read.
+// Stmt tells whether the statements x and y are the same.
 func Stmt(x, y api.Stmt) bool {
-	return x.Verb == y.Verb && x.Coll == y.Coll && x.Path == y.Path && sameValue(x.V, y.V) &&
+	return x.Verb == y.Verb && x.Coll == y.Coll && x.Path == y.Path && Value(x.V, y.V) &&
 		Cond(x.Where, y.Where) && slices.Equal(x.Order, y.Order) && x.Limit == y.Limit && slices.Equal(x.Show, y.Show) &&
 		slices.EqualFunc(x.Changes, y.Changes, sameChange)
 }
 
-// Cond tells whether x is the condition y that was read, or none, as y is.
+// Cond tells whether the conditions x and y are the same.
 func Cond(x, y api.Cond) bool {
-	return x.Op == y.Op && x.Path == y.Path && sameValue(x.V, y.V) && slices.EqualFunc(x.L, y.L, Cond)
+	return x.Op == y.Op && x.Path == y.Path && Value(x.V, y.V) && slices.EqualFunc(x.L, y.L, Cond)
 }
 
 func sameChange(x, y api.Change) bool {
-	return x.Do == y.Do && x.Path == y.Path && sameValue(x.V, y.V)
+	return x.Do == y.Do && x.Path == y.Path && Value(x.V, y.V)
 }
 
-func sameValue(x, y api.Val) bool {
-	if y.Kind == 0 {
-		return x.Kind == 0 && x.N == 0 && x.S == "" && len(x.L) == 0 && len(x.F) == 0
-	}
-	// What was read is good; of another one Compare tells the error.
-	n, e := value.Compare(x, y)
-	return n == 0 && e == api.OK
+// Value tells whether the values x and y are the same, good or not.
+func Value(x, y api.Val) bool {
+	return x.Kind == y.Kind && x.N == y.N && x.S == y.S && slices.EqualFunc(x.L, y.L, Value) && slices.EqualFunc(x.F, y.F, sameField)
 }
+
+func sameField(x, y api.Field) bool { return x.Name == y.Name && Value(x.V, y.V) }

@@ -78,3 +78,28 @@ func TestNotRead(t *testing.T) {
 		}
 	}
 }
+
+// values are values, good and bad, no two the same.
+func values() []api.Val {
+	l := append(sample.Nested(), api.Val{}, api.Val{N: 1}, api.Val{S: "a"}, api.Val{L: []api.Val{{}}}, api.Val{L: []api.Val{{N: 1}}}, api.Val{F: []api.Field{{}}}, api.Val{F: []api.Field{{Name: "a"}}}, sample.Bool(0), sample.Bool(1), sample.Int(0), sample.Int(1), sample.Text(""), sample.List(), sample.Doc(), sample.DeepLists(1<<16), sample.DeepLists(1<<16-1), sample.DeepDocs(1<<16))
+	for _, f := range sample.Bad()[1:] {
+		l = append(l, f.V)
+	}
+	return l
+}
+
+// R4, P19.2: a value, good or not, is the same as itself, and as no other; nil and an empty list are one.
+func TestValue(t *testing.T) {
+	l := values()
+	for i, a := range l {
+		a = sample.WithRoom(a)
+		for k, b := range l {
+			if same.Value(a, b) != (i == k) || same.Value(b, a) != (i == k) {
+				t.Errorf("%s and %s", sample.Short(a), sample.Short(b))
+			}
+		}
+	}
+	if !same.Value(api.Val{Kind: api.List, L: []api.Val{}, F: []api.Field{}}, sample.List()) {
+		t.Error("nil and an empty list are not one")
+	}
+}

@@ -69,7 +69,7 @@ func StmtsApart(l ...api.Stmt) bool {
 	return all.apart()
 }
 
-// lists are the lists of values and statements, each with its spare room.
+// lists are the lists of values, statements and states, each with its spare room.
 type lists struct {
 	values  [][]api.Val
 	fields  [][]api.Field
@@ -77,6 +77,7 @@ type lists struct {
 	orders  [][]api.Order
 	shows   [][]string
 	changes [][]api.Change
+	colls   [][]api.Coll
 	bytes   [][]byte
 }
 
@@ -119,6 +120,7 @@ func (a *lists) apart() bool {
 		apart(a.orders, strconv.Itoa, func(o *api.Order) *string { return &o.Path }) &&
 		apart(a.shows, strconv.Itoa, func(p *string) *string { return p }) &&
 		apart(a.changes, number, func(c *api.Change) *int64 { return &c.V.N }) &&
+		apart(a.colls, strconv.Itoa, func(c *api.Coll) *string { return &c.Name }) &&
 		apart(a.bytes, func(i int) byte { return byte(i) }, func(c *byte) *byte { return c })
 }
 

@@ -6,12 +6,7 @@ import (
 	"strings"
 
 	"tidemark/api"
-)
-
-// The numbers that a hash begins with, and is multiplied by at each byte.
-const (
-	hashStart = 14695981039346656037
-	hashPrime = 1099511628211
+	"tidemark/hashing"
 )
 
 // Compare tells which of a and b is ahead in the order.
@@ -56,15 +51,15 @@ func Hash(v api.Val) (uint64, api.Errno) {
 	if e := Good(v); e != api.OK {
 		return 0, e
 	}
-	return hashValue(hashStart, v), api.OK
+	return hashValue(hashing.Start, v), api.OK
 }
 
 // hashValue goes on from h over the bytes of v: they need not be written for it.
 func hashValue(h uint64, v api.Val) uint64 {
-	h = hashByte(h, byte(v.Kind))
+	h = hashing.Byte(h, byte(v.Kind))
 	switch v.Kind {
 	case api.Bool:
-		h = hashByte(h, byte(v.N))
+		h = hashing.Byte(h, byte(v.N))
 	case api.Int:
 		h = hashNumber(h, unsigned(v.N))
 	case api.Text:
@@ -85,20 +80,13 @@ func hashValue(h uint64, v api.Val) uint64 {
 
 // hashText goes on over a text with its length ahead.
 func hashText(h uint64, s string) uint64 {
-	h = hashNumber(h, uint64(len(s)))
-	for i := range len(s) {
-		h = hashByte(h, s[i])
-	}
-	return h
+	return hashing.Bytes(hashNumber(h, uint64(len(s))), s)
 }
 
 // hashNumber goes on over a number's digits by base 128, of which all but the last are told by 128 more.
 func hashNumber(h, n uint64) uint64 {
 	for ; n >= 128; n /= 128 {
-		h = hashByte(h, byte(n%128+128))
+		h = hashing.Byte(h, byte(n%128+128))
 	}
-	return hashByte(h, byte(n))
+	return hashing.Byte(h, byte(n))
 }
-
-// hashByte goes on over one byte.
-func hashByte(h uint64, b byte) uint64 { return (h ^ uint64(b)) * hashPrime }
